@@ -1,0 +1,1 @@
+"""Mastrows: rows of masts, decided for all directions."""

@@ -1,0 +1,120 @@
+"""Polynomials with whole numbers: lists, the number before t^k at index k.
+
+The last number of a polynomial is not 0, but where a function tells otherwise;
+nought is the empty list.
+"""
+
+from math import gcd
+
+# Any prime would do; a great one seldom finds a common divisor that is not there.
+PRIME = 2305843009213693951
+
+
+def poly_sum(first, second):
+    """The sum, as long as the longer one; it may end with noughts."""
+    if len(first) < len(second):
+        first, second = second, first
+    return [number + (second[k] if k < len(second) else 0) for k, number in enumerate(first)]
+
+
+def poly_scaled(poly, factor):
+    """All numbers times the factor."""
+    return [number * factor for number in poly]
+
+
+def poly_product(first, second):
+    """The product, as long as the lengths ask for; it may end with noughts."""
+    if not first or not second:
+        return []
+    out = [0] * (len(first) + len(second) - 1)
+    for k, number in enumerate(first):
+        for j, other in enumerate(second):
+            out[k + j] += number * other
+    return out
+
+
+def without_top_noughts(numbers):
+    """The polynomial of numbers that may end with noughts."""
+    size = len(numbers)
+    while size > 0 and numbers[size - 1] == 0:
+        size -= 1
+    return numbers[:size]
+
+
+def derivative(poly):
+    """The derivative."""
+    return [k * number for k, number in enumerate(poly)][1:]
+
+
+def primitive(poly):
+    """The polynomial without the divisors that all its numbers have in common."""
+    common = 0
+    for number in poly:
+        common = gcd(common, number)
+    return [number // common for number in poly]
+
+
+def remainder(poly, divisor):
+    """What is left of a multiple of the polynomial, divided by the divisor."""
+    rest = list(poly)
+    while len(rest) >= len(divisor):
+        rest = step_down(rest, divisor)
+    return rest
+
+
+def step_down(poly, divisor):
+    """A multiple of the polynomial less one of the divisor, of a lower degree."""
+    common = gcd(poly[-1], divisor[-1])
+    factor, top = divisor[-1] // common, poly[-1] // common
+    gap = len(poly) - len(divisor)
+    less = [0] * gap + poly_scaled(divisor, -top)
+    return without_top_noughts(poly_sum(poly_scaled(poly, factor), less))
+
+
+def greatest_divisor(first, second):
+    """A greatest common divisor, primitive, of two polynomials of which the first is not nought."""
+    first = primitive(first)
+    while second:
+        first, second = primitive(second), remainder(first, primitive(second))
+    return first
+
+
+def exact_quotient(poly, divisor):
+    """The polynomial divided by a primitive divisor of it."""
+    rest, out = list(poly), []
+    while len(rest) >= len(divisor):
+        factor = rest[-1] // divisor[-1]
+        gap = len(rest) - len(divisor)
+        rest = poly_sum(rest, [0] * gap + poly_scaled(divisor, -factor))[:-1]
+        out.append(factor)
+    return out[::-1]
+
+
+def square_free(poly):
+    """The polynomial with the same zeros, each of them once; the polynomial is not nought."""
+    poly = primitive(poly)
+    if is_surely_square_free(poly):
+        return poly
+    return exact_quotient(poly, greatest_divisor(poly, derivative(poly)))
+
+
+def is_surely_square_free(poly):
+    """True only if no zero comes twice: then the numbers modulo a prime show it, mostly at once.
+
+    A common divisor with the derivative keeps its degree modulo a prime that
+    does not divide the first number of the polynomial.
+    """
+    if poly[-1] % PRIME == 0:
+        return False
+    first, second = small_numbers(poly), small_numbers(derivative(poly))
+    while second:
+        rest = first
+        while len(rest) >= len(second):
+            rest = small_numbers(step_down(rest, second))
+        first, second = second, rest
+    return len(first) == 1
+
+
+def small_numbers(poly):
+    """The polynomial modulo the prime."""
+    return without_top_noughts([number % PRIME for number in poly])
