@@ -5,7 +5,7 @@ from math import lcm
 from mastrows.complexes import NOUGHT, added, is_complex, multiplied
 from mastrows.errors import InvalidLags, InvalidSign
 from mastrows.forms import core_of, form_at, middle_of, narrowed, sign_at, stretches
-from mastrows.fracs import check_fraction, check_whole, fraction_product, is_whole, reduced
+from mastrows.fracs import check_fraction, check_whole, is_whole, reduced
 from mastrows.polys import poly_product, poly_scaled, poly_sum
 from mastrows.turns import ALL, back_vector, check_arc, check_turn, parts_of_point, turn_toward, vector_of, ways_of
 

@@ -145,6 +145,20 @@ class SignsByHand(unittest.TestCase):
         self.assertEqual(signs_on(lags_sum(WAVE, (real(1, HUGE),)), "all"), (1,))
         self.assertEqual(signs_on(lags_sum(WAVE, (real(-1, HUGE),)), "all"), (-1, 0, 1, 0, -1))
 
+    def test_first_numbers_that_a_great_prime_divides(self):
+        prime = 2 ** 61 - 1
+        twice = oracle.quadratic(1, 2 * prime, prime * prime)
+        self.assertEqual(signs_on(twice, "all"), (1, 0, 1))
+        self.assertEqual(signs_on(twice, ((-1, prime), (0, 1))), (0, 1))
+        self.assertEqual(signs_on(times(twice, oracle.quadratic(0, 1, 0)), "all"), (0, -1, 0, -1, 0, 1))
+
+    def test_zeros_close_to_one_another(self):
+        for many in (1, 100, 10 ** 30, 10 ** 300):
+            close = times(oracle.quadratic(-many, 0, 16 * many), oracle.quadratic(-many, 0, 16 * many + 1))
+            self.assertEqual(signs_on(close, ((0, 1), (1, 1))), (1, 0, -1, 0, 1))
+            self.assertEqual(signs_on(close, "all"), (1, 0, -1, 0, 1, 0, -1, 0, 1))
+            self.assertEqual(signs_on(close, ((1, 4), (-1, 4))), (0, 1, 0))
+
     def test_arcs_of_any_size(self):
         self.assertEqual(signs_on((NIL, I), ((-1, HUGE), (1, HUGE))), (1, 0, -1))
         self.assertEqual(signs_on((NIL, I), ((HUGE, 1), (-HUGE, 1))), (-1, 0, 1))
