@@ -159,6 +159,18 @@ class SignsByHand(unittest.TestCase):
             self.assertEqual(signs_on(close, "all"), (1, 0, -1, 0, 1, 0, -1, 0, 1))
             self.assertEqual(signs_on(close, ((1, 4), (-1, 4))), (0, 1, 0))
 
+    def test_zeros_close_to_one_another_beside_zeros_at_the_ends(self):
+        for many in (1, 100, 10 ** 30):
+            parts = [oracle.quadratic(-many, 0, 16 * many + k) for k in (0, 1, 2)]
+            two, three = times(*parts[:2], oracle.quadratic(0, 1, 0)), times(*parts, oracle.quadratic(0, 1, 0))
+            self.assertEqual(signs_on(two, ((0, 1), (1, 1))), (0, 1, 0, -1, 0, 1))
+            self.assertEqual(signs_on(two, ((-1, 1), (0, 1))), (-1, 0, 1, 0, -1, 0))
+            self.assertEqual(signs_on(three, ((0, 1), (1, 1))), (0, -1, 0, 1, 0, -1, 0, 1))
+            self.assertEqual(signs_on(three, ((-1, 1), (0, 1))), (-1, 0, 1, 0, -1, 0, 1, 0))
+            self.assertEqual(signs_on(times(*parts), ((0, 1), (1, 1))), (-1, 0, 1, 0, -1, 0, 1))
+            self.assertEqual(signs_on(times(*parts), ((-1, 1), (0, 1))), (1, 0, -1, 0, 1, 0, -1))
+            self.assertEqual(signs_on(times(*parts), ("half", (0, 1))), (1, 0, -1, 0, 1, 0, -1))
+
     def test_arcs_of_any_size(self):
         self.assertEqual(signs_on((NIL, I), ((-1, HUGE), (1, HUGE))), (1, 0, -1))
         self.assertEqual(signs_on((NIL, I), ((HUGE, 1), (-HUGE, 1))), (-1, 0, 1))
