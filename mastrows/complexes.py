@@ -1,7 +1,7 @@
 """Complex numbers: pairs (RE, IM) of fractions."""
 
 from mastrows.errors import InvalidComplex
-from mastrows.fracs import fraction_back, fraction_product, fraction_sum, is_fraction
+from mastrows.fracs import fraction_back, fraction_product, fraction_quotient, fraction_sum, is_fraction
 
 NOUGHT = ((0, 1), (0, 1))
 
@@ -68,3 +68,15 @@ def square_of_size(number):
     """The size square of a complex number that is known to be one."""
     real, imaginary = number
     return fraction_sum(fraction_product(real, real), fraction_product(imaginary, imaginary))
+
+
+def quotient_of(first, second):
+    """The first complex number divided by the second one, which is not 0."""
+    size = square_of_size(second)
+    real, imaginary = multiplied(first, mirrored_number(second))
+    return fraction_quotient(real, size), fraction_quotient(imaginary, size)
+
+
+def stretched(number, fraction):
+    """A complex number times a fraction."""
+    return fraction_product(number[0], fraction), fraction_product(number[1], fraction)

@@ -2,7 +2,7 @@
 
 from math import gcd
 
-from mastrows.errors import InvalidFraction, InvalidNumber
+from mastrows.errors import InvalidContent, InvalidFraction, InvalidNumber
 
 
 def is_whole(value):
@@ -22,6 +22,17 @@ def check_fraction(given):
     """Refuse what is no fraction."""
     if not is_fraction(given):
         raise InvalidFraction(given)
+
+
+def is_content(value):
+    """Whether a value, whatever it is, is a fraction from 0 on."""
+    return is_fraction(value) and value[0] >= 0
+
+
+def check_content(given):
+    """Refuse what is no fraction from 0 on."""
+    if not is_content(given):
+        raise InvalidContent(given)
 
 
 def check_whole(given, low, high):
@@ -51,6 +62,16 @@ def fraction_product(first, second):
     """The product of two fractions."""
     one, two = gcd(first[0], second[1]), gcd(second[0], first[1])
     return first[0] // one * (second[0] // two), first[1] // two * (second[1] // one)
+
+
+def fraction_quotient(first, second):
+    """The first fraction divided by the second one, which is above 0."""
+    return fraction_product(first, (second[1], second[0]))
+
+
+def fraction_less(first, second):
+    """The first fraction less the second one."""
+    return fraction_sum(first, fraction_back(second))
 
 
 def fraction_back(fraction):

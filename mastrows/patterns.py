@@ -1,13 +1,12 @@
 """Lags and their patterns: real numbers at all directions, decided on arcs."""
 
-from math import lcm
-
 from mastrows.complexes import NOUGHT, added, is_complex, multiplied
+from mastrows.cpolys import common_bottom, cpoly_mirror, cpoly_product, numbers_over, pair_times, pairs_over
 from mastrows.errors import InvalidLags, InvalidSign
 from mastrows.forms import core_of, form_at, middle_of, narrowed, sign_at, stretches
 from mastrows.fracs import check_fraction, check_whole, is_whole, reduced
 from mastrows.polys import poly_product, poly_scaled, poly_sum
-from mastrows.turns import ALL, back_vector, check_arc, check_turn, parts_of_point, turn_toward, vector_of, ways_of
+from mastrows.turns import ALL, check_arc, check_turn, numbers_turned_back, turn_toward, vector_of, ways_of
 
 ENDLESS = "endless"
 MOST_LAGS = 8
@@ -37,16 +36,14 @@ def pattern_at(lags, turn):
     """The pattern at a turn, a fraction."""
     check_lags(lags)
     check_turn(turn)
-    form, bottom = form_of(lags)
-    vector = vector_of(turn)
-    return reduced(form_at(form, vector), bottom * weight_at(form, vector))
+    return value_at(lags, turn)
 
 
 def signs_on(lags, arc):
     """The sign row of the pattern on the arc."""
     check_lags(lags)
     check_arc(arc)
-    return sign_row(form_of(lags)[0], arc)
+    return sign_row_of(lags, arc)
 
 
 def zeros_on(lags, arc):
@@ -64,14 +61,7 @@ def turn_with(lags, arc, sign):
     check_lags(lags)
     check_arc(arc)
     check_sign(sign)
-    form = form_of(lags)[0]
-    if is_nought(form):
-        return None
-    for left, right, count in stretches_on(form, arc):
-        for vector in told_vectors(left, right, count):
-            if vector is not None and sign_at(form, vector) == sign:
-                return turn_toward(vector)
-    return None
+    return any_turn(lags, arc, sign)
 
 
 def greatest_floor(lags, arc, parts):
@@ -79,11 +69,7 @@ def greatest_floor(lags, arc, parts):
     check_lags(lags)
     check_arc(arc)
     check_whole(parts, 1, MOST_PARTS)
-    met = max(quarters_met(lags, arc, parts))
-    high = (met + 2) // 4
-    if high == met // 4 or max(signs_less(lags, arc, high, parts)) >= 0:
-        return high
-    return high - 1
+    return highest(lags, arc, parts)
 
 
 def least_floor(lags, arc, parts):
@@ -91,21 +77,13 @@ def least_floor(lags, arc, parts):
     check_lags(lags)
     check_arc(arc)
     check_whole(parts, 1, MOST_PARTS)
-    met = min(quarters_met(lags, arc, parts))
-    high = met // 4
-    if high == (met - 2) // 4 or min(signs_less(lags, arc, high, parts)) >= 0:
-        return high
-    return high - 1
+    return lowest(lags, arc, parts)
 
 
 def peaks_of(lags):
     """The number of directions at which the slope goes from above 0 to below 0."""
     check_lags(lags)
-    row = sign_row(form_of(slope_of(lags))[0], ALL)
-    # The row goes round: the last sign is also the one ahead of the first.
-    ahead = (row[-1],) + row[:-1]
-    behind = row[1:] + (row[0],)
-    return list(zip(ahead, row, behind)).count((1, 0, -1))
+    return peak_count(lags)
 
 
 def slope_lags(lags):
@@ -118,21 +96,14 @@ def lags_times(lags, fraction):
     """The lags, each times the fraction."""
     check_lags(lags)
     check_fraction(fraction)
-    factor = (fraction, (0, 1))
-    return tuple([multiplied(number, factor) for number in lags])
+    return times_of(lags, fraction)
 
 
 def turned_lags(lags, turn):
     """The lags of the pattern, turned by the turn."""
     check_lags(lags)
     check_turn(turn)
-    real, imaginary, whole = parts_of_point(back_vector(vector_of(turn)))
-    out, power = [], (1, 0, 1)
-    for number in lags:
-        top, side, bottom = power
-        out.append(multiplied(number, ((top, bottom), (side, bottom))))
-        power = top * real - side * imaginary, top * imaginary + side * real, bottom * whole
-    return tuple(out)
+    return numbers_turned_back(lags, turn)
 
 
 def lags_sum(lags, other):
@@ -142,9 +113,88 @@ def lags_sum(lags, other):
     return sum_of(lags, other)
 
 
+def value_at(lags, turn):
+    """The pattern at a turn."""
+    form, bottom = form_of(lags)
+    vector = vector_of(turn)
+    return reduced(form_at(form, vector), bottom * weight_at(form, vector))
+
+
+def sign_row_of(lags, arc):
+    """The sign row of the pattern on the arc."""
+    return sign_row(form_of(lags)[0], arc)
+
+
+def any_turn(lags, arc, sign):
+    """A turn of the arc at which the pattern has the sign; None if there is none."""
+    form = form_of(lags)[0]
+    if is_nought(form):
+        return None
+    for left, right, count in stretches_on(form, arc):
+        for vector in told_vectors(left, right, count):
+            if vector is not None and sign_at(form, vector) == sign:
+                return turn_toward(vector)
+    return None
+
+
+def highest(lags, arc, parts):
+    """The greatest whole k with k / parts up to the greatest number of the pattern on the arc."""
+    met = max(quarters_met(lags, arc, parts))
+    high = (met + 2) // 4
+    if high == met // 4 or max(signs_less(lags, arc, high, parts)) >= 0:
+        return high
+    return high - 1
+
+
+def lowest(lags, arc, parts):
+    """The greatest whole k with k / parts up to the least number of the pattern on the arc."""
+    met = min(quarters_met(lags, arc, parts))
+    high = met // 4
+    if high == (met - 2) // 4 or min(signs_less(lags, arc, high, parts)) >= 0:
+        return high
+    return high - 1
+
+
+def peak_count(lags):
+    """The number of peaks of the pattern."""
+    row = sign_row_of(slope_of(lags), ALL)
+    # The row goes round: the last sign is also the one ahead of the first.
+    ahead = (row[-1],) + row[:-1]
+    behind = row[1:] + (row[0],)
+    return list(zip(ahead, row, behind)).count((1, 0, -1))
+
+
 def slope_of(lags):
     """The lags of the slope: each one times i and its index."""
     return tuple([multiplied(number, ((0, 1), (k, 1))) for k, number in enumerate(lags)])
+
+
+def times_of(lags, fraction):
+    """The lags, each times the fraction."""
+    factor = (fraction, (0, 1))
+    return tuple([multiplied(number, factor) for number in lags])
+
+
+def difference_of(first, second):
+    """The lags of the first pattern less the second one."""
+    return sum_of(first, times_of(second, (-1, 1)))
+
+
+def product_of(first, second):
+    """The lags of the product of two patterns; there may be more than lags have otherwise."""
+    one, two = common_bottom(first), common_bottom(second)
+    all_pairs = cpoly_product(both_sides(pairs_over(first, one)), both_sides(pairs_over(second, two)))
+    return numbers_over(all_pairs[len(all_pairs) // 2:], one * two)
+
+
+def both_sides(pairs):
+    """The pairs c_(-n) to c_n of the pairs c_0 to c_n."""
+    return cpoly_mirror(pairs[1:]) + pairs
+
+
+def lone_lags(fraction):
+    """Lags with the fraction as their pattern."""
+    return ((fraction, (0, 1)),)
 
 
 def sum_of(first, second):
@@ -168,24 +218,16 @@ def form_of(lags):
     """
     size = max([1] + [k + 1 for k, number in enumerate(lags) if number != NOUGHT])
     bottom = common_bottom(lags)
+    pairs = pairs_over(lags[:size], bottom)
     real, imaginary, weight = [], [], [1]
     for k in reversed(range(size)):
-        twice = bottom if k == 0 else 2 * bottom
-        top, side = [part[0] * twice // part[1] for part in lags[k]]
+        top, side = pairs[k] if k == 0 else pair_times(pairs[k], 2)
         turned = poly_sum(poly_product(real, [1, 0, -1]), poly_product(imaginary, [0, -2]))
         sided = poly_sum(poly_product(real, [0, 2]), poly_product(imaginary, [1, 0, -1]))
         real = poly_sum(turned, poly_scaled(weight, top))
         imaginary = poly_sum(sided, poly_scaled(weight, side))
         weight = poly_product(weight, [1, 0, 1])
     return real, bottom
-
-
-def common_bottom(lags):
-    """A whole number above 0 that makes all parts of the lags whole."""
-    bottom = 1
-    for real, imaginary in lags:
-        bottom = lcm(bottom, real[1], imaginary[1])
-    return bottom
 
 
 def weight_at(form, vector):
@@ -235,8 +277,7 @@ def sign_row(form, arc):
 
 def signs_less(lags, arc, k, parts):
     """The sign row on the arc of the pattern less k / parts."""
-    less = ((reduced(-k, parts), (0, 1)),)
-    return sign_row(form_of(sum_of(lags, less))[0], arc)
+    return sign_row_of(sum_of(lags, lone_lags(reduced(-k, parts))), arc)
 
 
 def quarters_met(lags, arc, parts):

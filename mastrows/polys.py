@@ -74,6 +74,8 @@ def step_down(poly, divisor):
 def greatest_divisor(first, second):
     """A greatest common divisor, primitive, of two polynomials of which the first is not nought."""
     first = primitive(first)
+    if are_surely_apart(first, second):
+        return [1]
     while second:
         first, second = primitive(second), remainder(first, primitive(second))
     return first
@@ -93,20 +95,30 @@ def exact_quotient(poly, divisor):
 def square_free(poly):
     """The polynomial with the same zeros, each of them once; the polynomial is not nought."""
     poly = primitive(poly)
-    if is_surely_square_free(poly):
-        return poly
     return exact_quotient(poly, greatest_divisor(poly, derivative(poly)))
 
 
-def is_surely_square_free(poly):
-    """True only if no zero comes twice: then the numbers modulo a prime show it, mostly at once.
+def layers(poly):
+    """Polynomials with each of their zeros once: in the k-th those that come more than k times.
 
-    A common divisor with the derivative keeps its degree modulo a prime that
-    does not divide the first number of the polynomial.
+    Their product is the polynomial, but for a factor; it is not nought.
     """
-    if poly[-1] % PRIME == 0:
+    rest, out = primitive(poly), []
+    while len(rest) > 1:
+        out.append(square_free(rest))
+        rest = exact_quotient(rest, out[-1])
+    return out
+
+
+def are_surely_apart(first, second):
+    """True only if there is no common divisor: then the numbers modulo a prime show it, mostly at once.
+
+    A common divisor keeps its degree modulo a prime that does not divide the
+    last number of the first polynomial, which is not nought.
+    """
+    if first[-1] % PRIME == 0:
         return False
-    first, second = small_numbers(poly), small_numbers(derivative(poly))
+    first, second = small_numbers(first), small_numbers(second)
     while second:
         rest = first
         while len(rest) >= len(second):

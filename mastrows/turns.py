@@ -5,7 +5,7 @@ numbers, not both 0: the turn is ACROSS / ALONG, and `half` has ALONG 0. So half
 is no exception there, and vectors multiply like the points do.
 """
 
-from mastrows.complexes import check_complex, square_of_size
+from mastrows.complexes import check_complex, multiplied, square_of_size
 from mastrows.errors import InvalidArc, InvalidTurn, NotOnCircle
 from mastrows.fracs import check_whole, fraction_product, fraction_sum, is_fraction, reduced
 
@@ -154,6 +154,17 @@ def parts_of_point(vector):
     if across % 2 == 1 and along % 2 == 1:
         return parts[0] // 2, parts[1] // 2, parts[2] // 2
     return parts
+
+
+def numbers_turned_back(numbers, turn):
+    """The complex numbers, each times the power, by its index, of the back of the turn's point."""
+    real, imaginary, whole = parts_of_point(back_vector(vector_of(turn)))
+    out, power = [], (1, 0, 1)
+    for number in numbers:
+        top, side, bottom = power
+        out.append(multiplied(number, ((top, bottom), (side, bottom))))
+        power = top * real - side * imaginary, top * imaginary + side * real, bottom * whole
+    return tuple(out)
 
 
 def joined_vectors(first, second):

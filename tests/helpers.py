@@ -63,3 +63,50 @@ LAGS = [(NIL,), (ONE,), WAVE, (ONE, I), (NIL, I), (ONE,) * 8, (NIL,) * 8, (TWO, 
 NO_SIGNS = NO_VALUES + [0, 2, -2, HUGE, (1, 1), (1,), "1", "-1", [1]]
 NO_PARTS = NO_VALUES + [0, -1, 1000001, -1000000, HUGE, -HUGE, (1, 1), (10,), "10", [1]]
 NO_COUNTS = NO_VALUES + [61, -61, 1000, HUGE, -HUGE, (1, 1), (2,), "2", [1]]
+HALF = real(1, 2)
+NO_ROWS = NO_VALUES + WHOLE + FRACTIONS + COMPLEXES + [
+    "half", "all", (NIL,), (NIL,) * 8, (ONE,) * 9, (NIL,) * 8 + (ONE,), (ONE,) * 20, [ONE], [ONE, TWO], (ONE, None),
+    (ONE, (1, 1)), (ONE, 1), (ONE, ((2, 2), (0, 1))), (((2, 4), (0, 1)),), (((True, 1), (0, 1)),), (Touchy(),),
+    (ONE, Touchy()), (list(ONE),), (ONE, [(1, 1), (0, 1)]), (NIL, NIL), ((ONE,),)]
+ROWS = [(TWO, ONE), (ONE,), (I,), (ONE, ONE), (NIL, ONE), (ONE, NIL), (NIL, I, NIL), (ONE,) * 8, (NIL,) * 7 + (ONE,),
+        (ONE,) + (NIL,) * 7, (ONE, NIL, NIL, LESS), (real(HUGE), ((1, HUGE), (HUGE, 7))), (I, TWO, LESS, NIL, ONE)]
+# of two masts, and nothing is sent toward no direction
+LOUD = [(TWO, ONE), (ONE, NIL), (NIL, I), (ONE, real(-3, 7)), (real(HUGE), I)]
+NO_FEEDS = NO_COMPLEXES + [NIL, ((0, 1), (0, 1))]
+NO_CONTENTS = NO_FRACTIONS + [(-1, 1), (-1, HUGE), (-HUGE, 1)]
+CONTENTS = [(0, 1), (1, 1), (1, 2), (HUGE, 1), (1, HUGE), (22, 7)]
+NO_MANY = NO_VALUES + [0, -1, 9, 10, HUGE, -HUGE, (1, 1), (2,), "2", [1]]
+NO_STEPS = NO_VALUES + [0, -1, -HUGE, (1, 1), (2,), "2", [1]]
+NO_SILENT = NO_VALUES + [-1, 3, 8, HUGE, -HUGE, (1, 1), (2,), "2", [1]]
+# arcs that a turn is told on: none has half on it
+NO_PLAIN_ARCS = NO_ARCS + ["all", ("half", (0, 1)), ((0, 1), "half"), ((1, 1), (-1, 1)), ((1, 1), (0, 1)),
+                           ((HUGE, 1), (-HUGE, 1))]
+PLAIN_ARCS = [((-1, 1), (1, 1)), ((-HUGE, 1), (HUGE, 1)), ((0, 1), (1, HUGE))]
+# wrong slacks of two feeds, and what is told of them
+NO_SLACKS = [(value, None) for value in NO_VALUES + WHOLE if not isinstance(value, tuple) or len(value) != 2] + [
+    ((), None), ([(0, 1), (0, 1)], None), (((0, 1),), None), (((0, 1),) * 3, None), ("ab", None), ((None, None), 0),
+    ((Touchy(), (0, 1)), 0), (((0, 1), Touchy()), 1), (((0, 1), (-1, 2)), 1), (((-1, 2), (0, 1)), 0),
+    (((-1, 2), (-1, 2)), 0), (((0, 1), 0), 1), ((0, (0, 1)), 0), (((0, 1), (2, 2)), 1), (((0, 1), [0, 1]), 1),
+    (((0, 1), (True, 1)), 1), (((0, 1), "half"), 1), ((0, 1), 0), ((ONE, (0, 1)), 0), (((-1, HUGE), (0, 1)), 0)]
+SLACKS = [((0, 1), (0, 1)), ((1, 3), (0, 1)), ((0, 1), (1, HUGE)), ((HUGE, 1), (HUGE, 1))]
+# wrong indexes of two feeds, and what is told of them
+NO_INDEXES = [(value, None) for value in NO_VALUES + WHOLE if not isinstance(value, tuple)] + [
+    ([0], None), ("0", None), (range(2), None), ((-1,), 0), ((2,), 0), ((0, 2), 1), ((0, 0), 1), ((1, 0), 1),
+    ((0, 1, 2), 2), ((0, 1, 1), 2), ((True,), 0), ((False, 1), 0), ((0, True), 1), ((None,), 0), ((0, None), 1),
+    (("0",), 0), (((0,),), 0), ((Touchy(),), 0), ((0, Touchy()), 1), ((HUGE,), 0), ((-HUGE,), 0), (((1, 1),), 0),
+    ((0, -1), 1), ((0, -2), 1), ((0, (1, 1)), 1), (((),), 0)]
+INDEXES = [(), (0,), (1,), (0, 1)]
+# wrong points, and what is told of them
+ORIGIN = ((0, 1), ONE)
+EIGHT = tuple(((k, 1), ONE) for k in range(8))
+NO_POINTS = [(value, None) for value in NO_VALUES + WHOLE if not isinstance(value, tuple)] + [
+    ((), 0), ([ORIGIN], None), ("ab", None), ({(0, 1): ONE}, None), ((ORIGIN, ORIGIN), 1), (ORIGIN, 0),
+    ((None,), 0), ((ORIGIN, None), 1), ((list(ORIGIN),), 0), ((((0, 1),),), 0), ((((0, 1), ONE, ONE),), 0),
+    ((((2, 2), ONE),), 0), (("half", ONE), 0), ((("half", ONE), ("half", NIL)), 1), ((("all", ONE),), 0),
+    ((ORIGIN, (ONE, (0, 1))), 1), (((ONE, (0, 1)),), 0), ((((0, 1), (0, 1)),), 0), ((((0, 1), None),), 0),
+    (((None, ONE),), 0), (((Touchy(), ONE),), 0), ((((0, 1), Touchy()),), 0), ((ORIGIN, Touchy()), 1),
+    ((Touchy(), ORIGIN), 0), (EIGHT + (("half", ONE),), 8), (EIGHT + (None,), 8), (EIGHT + (None, None), 8),
+    (EIGHT * 2, 8), (EIGHT[:7] + (None,), 7), (EIGHT[:7] + EIGHT[:1], 7), (EIGHT[:2] + EIGHT[:2], 2),
+    ((ORIGIN, ((1, 1), ((2, 2), (0, 1)))), 1), ((((0, 1), [(1, 1), (0, 1)]),), 0), ((((0, 1), "1 0"),), 0),
+    ((((True, 1), ONE),), 0), (((0, ONE),), 0)]
+POINTS = [(ORIGIN,), (("half", NIL), ORIGIN), EIGHT, ((("ha" + "lf"), I),), (((HUGE, 1), ONE), ((-1, HUGE), NIL))]

@@ -251,3 +251,73 @@ def quadratic(a, b, c):
     """Lags with the pattern (a + b t + c t t) / (1 + t t)."""
     real = Fraction(a - c, 4)
     return ((pair(Fraction(a + c, 2)), (0, 1)), (pair(real), pair(-Fraction(b, 4))))
+
+
+def number(complex_number):
+    return fraction(complex_number[0]), fraction(complex_number[1])
+
+
+def told(plain):
+    return pair(plain[0]), pair(plain[1])
+
+
+def sent(row, turn):
+    """The sum of a_k * z^k, a pair of Python's fractions."""
+    z, power, total = point(turn), (Fraction(1), Fraction(0)), (Fraction(0), Fraction(0))
+    for feed in row:
+        part = times(number(feed), power)
+        total = total[0] + part[0], total[1] + part[1]
+        power = times(power, z)
+    return total
+
+
+def power(row, turn):
+    real, side = sent(row, turn)
+    return real * real + side * side
+
+
+def lags(row):
+    """c_j is the sum of a_(k + j) * conj(a_k)."""
+    plain, out = [number(feed) for feed in row], []
+    for j in range(len(row)):
+        parts = [times(plain[k + j], (plain[k][0], -plain[k][1])) for k in range(len(row) - j)]
+        out.append((pair(sum(a for a, _ in parts)), pair(sum(b for _, b in parts))))
+    return tuple(out)
+
+
+def product(*rows):
+    """The product of rows as polynomials, as long as it comes."""
+    out = [(Fraction(1), Fraction(0))]
+    for row in rows:
+        more = [(Fraction(0), Fraction(0))] * (len(out) + len(row) - 1)
+        for k, a in enumerate(out):
+            for j, feed in enumerate(row):
+                part = times(a, number(feed))
+                more[k + j] = more[k + j][0] + part[0], more[k + j][1] + part[1]
+        out = more
+    return tuple(told(feed) for feed in out)
+
+
+def mirror(row):
+    return tuple((real, (-side[0], side[1])) for real, side in row[::-1])
+
+
+def summed(first, second, factor=1):
+    """The lags of the first pattern and the second one times a factor."""
+    size = max(len(first), len(second))
+    one, two = [list(row) + [((0, 1), (0, 1))] * (size - len(row)) for row in (first, second)]
+    return tuple((pair(fraction(a[0]) + factor * fraction(b[0])), pair(fraction(a[1]) + factor * fraction(b[1])))
+                 for a, b in zip(one, two))
+
+
+def slope(lags):
+    """Each lag times i and its index."""
+    return tuple((pair(-k * fraction(side)), pair(k * fraction(real))) for k, (real, side) in enumerate(lags))
+
+
+def line(lags):
+    """The lags without noughts at the end."""
+    lags = list(lags)
+    while lags and lags[-1] == ((0, 1), (0, 1)):
+        lags.pop()
+    return tuple(lags)

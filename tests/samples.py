@@ -45,3 +45,36 @@ def some_lags(dice):
     if dice.random() < 0.3:
         out = lags_sum(out, (real(dice.choice([-1, 1]), 10 ** dice.randint(1, 30)),))
     return out + (NIL,) * dice.choice([0, 0, 0, 1, 2])
+
+
+def whole(*numbers):
+    """A row of whole numbers, each alone or a pair."""
+    return tuple(((n[0], 1), (n[1], 1)) if isinstance(n, tuple) else real(n) for n in numbers)
+
+
+def some_number(dice):
+    return tuple(oracle.pair(Fraction(dice.randint(-4, 4), dice.choice([1, 1, 2, 3]))) for _ in range(2))
+
+
+# rows of two or three masts: with nulls that fractions tell or do not, at half, and without
+FACTORS = [whole(1, 1), whole(1, -1), whole(1, (0, 1)), whole(1, 1, 1), whole(1, -1, 1), whole(1, 0, 1), whole(2, 1),
+           whole(1, 2), whole((1, 1), 3), whole(1, -1, -1), whole(1, 0, 2), whole(3, (1, 2)), whole(5, -8, 5),
+           whole(3, -2, 3), whole(1, (1, 1), 5)]
+
+
+def some_row(dice, most=8):
+    """A row of any kind: mostly a product, some factors several times, some noughts at its ends."""
+    if dice.random() < 0.3:
+        row = tuple(some_number(dice) for _ in range(dice.randint(1, most)))
+        return row if any(feed != NIL for feed in row) else (ONE,)
+    row = (real(dice.choice([1, -1, 2]), dice.choice([1, 3])),)
+    for _ in range(dice.randint(1, 4)):
+        factor = dice.choice(FACTORS)
+        if len(row) + len(factor) - 1 <= most:
+            row = oracle.product(row, factor)
+    room = most - len(row)
+    ahead = dice.choice([0, 0, 0, 1, 2])
+    behind = dice.choice([0, 0, 0, 1, 2])
+    if ahead + behind <= room:
+        row = (NIL,) * ahead + row + (NIL,) * behind
+    return row

@@ -4,21 +4,44 @@ import inspect
 import unittest
 from itertools import combinations
 
-from helpers import (ARCS, COMPLEXES, FRACTIONS, HUGE, LAGS, NO_ARCS, NO_COMPLEXES, NO_COUNTS, NO_FRACTIONS, NO_LAGS,
-                     NO_PARTS, NO_SIGNS, NO_TURNS, TURNS)
-from mastrows import complexes, errors, patterns, turns
+from helpers import (ARCS, COMPLEXES, CONTENTS, FRACTIONS, HUGE, INDEXES, LAGS, LOUD, NO_ARCS, NO_COMPLEXES,
+                     NO_CONTENTS, NO_COUNTS, NO_FEEDS, NO_FRACTIONS, NO_INDEXES, NO_LAGS, NO_MANY, NO_PARTS,
+                     NO_PLAIN_ARCS, NO_POINTS, NO_ROWS, NO_SIGNS, NO_SILENT, NO_SLACKS, NO_STEPS, NO_TURNS, PLAIN_ARCS,
+                     POINTS, ROWS, SLACKS, TURNS)
+from mastrows import (bearings, complexes, errors, likes, makers, patterns, points, rows, silences, slacks, turns,
+                      wishes)
 
-# for each sort of argument: the error, values that are refused, and values that are not
+
+def plain(values):
+    """Wrong values, each of them told as `given`."""
+    return [(value, value) for value in values]
+
+
+# for each sort of argument: the error, values that are refused with what is told, and values that are not
 SORTS = {
-    "complex": (errors.InvalidComplex, NO_COMPLEXES, COMPLEXES),
-    "turn": (errors.InvalidTurn, NO_TURNS, TURNS[-3:] + TURNS[:5]),
-    "arc": (errors.InvalidArc, NO_ARCS, ARCS[:-1]),
-    "lags": (errors.InvalidLags, NO_LAGS, LAGS[:8]),
-    "fraction": (errors.InvalidFraction, NO_FRACTIONS, FRACTIONS),
-    "sign": (errors.InvalidSign, NO_SIGNS, [1, -1]),
-    "parts": (errors.InvalidNumber, NO_PARTS, [1, 1000000, 2, 999999]),
-    "count": (errors.InvalidNumber, NO_COUNTS, [0, 60, -60, 1, -1, 59, -59]),
+    "complex": (errors.InvalidComplex, plain(NO_COMPLEXES), [((3, 5), (-4, 5))] + COMPLEXES),
+    "feed": (errors.InvalidComplex, plain(NO_FEEDS), COMPLEXES[1:]),
+    "turn": (errors.InvalidTurn, plain(NO_TURNS), TURNS[-3:] + TURNS[:5]),
+    "arc": (errors.InvalidArc, plain(NO_ARCS), ARCS[:-1]),
+    "plain arc": (errors.InvalidArc, plain(NO_PLAIN_ARCS), PLAIN_ARCS),
+    "lags": (errors.InvalidLags, plain(NO_LAGS), LAGS[:8]),
+    "fraction": (errors.InvalidFraction, plain(NO_FRACTIONS), FRACTIONS),
+    "content": (errors.InvalidContent, plain(NO_CONTENTS), CONTENTS),
+    "sign": (errors.InvalidSign, plain(NO_SIGNS), [1, -1]),
+    "parts": (errors.InvalidNumber, plain(NO_PARTS), [1, 1000000, 2, 999999]),
+    "count": (errors.InvalidNumber, plain(NO_COUNTS), [0, 60, -60, 1, -1, 59, -59]),
+    "many": (errors.InvalidNumber, plain(NO_MANY), [1, 2, 8, 7]),
+    "step": (errors.InvalidNumber, plain(NO_STEPS), [1, 2, 7]),
+    "silent": (errors.InvalidNumber, plain(NO_SILENT), [0, 1, 2]),
+    "row": (errors.InvalidRow, plain(NO_ROWS), ROWS),
+    "short row": (errors.InvalidRow, plain(NO_ROWS), LOUD),
+    "slacks": (errors.InvalidSlacks, NO_SLACKS, SLACKS),
+    "indexes": (errors.InvalidIndexes, NO_INDEXES, INDEXES),
+    "points": (errors.InvalidPoints, NO_POINTS, POINTS),
 }
+BOTH = [("row", "short row"), ("other", "short row")]
+LOOSE = [("row", "short row"), ("slacks", "slacks")]
+STILL = [("row", "row"), ("count", "silent"), ("arc", "arc"), ("level", "content")]
 FUNCTIONS = [
     (complexes.complex_sum, [("number", "complex"), ("other", "complex")]),
     (complexes.complex_product, [("number", "complex"), ("other", "complex")]),
@@ -42,58 +65,115 @@ FUNCTIONS = [
     (patterns.lags_times, [("lags", "lags"), ("fraction", "fraction")]),
     (patterns.turned_lags, [("lags", "lags"), ("turn", "turn")]),
     (patterns.lags_sum, [("lags", "lags"), ("other", "lags")]),
+    (rows.sent, [("row", "row"), ("turn", "turn")]),
+    (rows.power_at, [("row", "row"), ("turn", "turn")]),
+    (rows.mean_power, [("row", "row")]),
+    (rows.lags_of, [("row", "row")]),
+    (rows.is_null, [("row", "row"), ("turn", "turn")]),
+    (rows.nulls_on, [("row", "row"), ("arc", "arc")]),
+    (rows.lobes_of, [("row", "row")]),
+    (rows.never_more, [("row", "row"), ("other", "row"), ("arc", "arc")]),
+    (rows.more_at, [("row", "row"), ("other", "row"), ("arc", "arc")]),
+    (likes.trimmed, [("row", "row")]),
+    (likes.same_power, [("row", "row"), ("other", "row")]),
+    (likes.parting_turn, [("row", "row"), ("other", "row")]),
+    (likes.like_parts, [("row", "row"), ("other", "row")]),
+    (likes.rows_of_power, [("lags", "lags")]),
+    (wishes.is_wished, [("lags", "lags")]),
+    (wishes.rows_for, [("lags", "lags")]),
+    (wishes.dark_turn, [("lags", "lags")]),
+    (wishes.least_raise, [("lags", "lags"), ("parts", "parts")]),
+    (makers.even_row, [("many", "many")]),
+    (makers.binomial_row, [("many", "many")]),
+    (makers.steered, [("row", "row"), ("turn", "turn")]),
+    (makers.mirrored, [("row", "row")]),
+    (makers.back_row, [("row", "row")]),
+    (makers.fed, [("row", "row"), ("number", "feed")]),
+    (makers.joined_rows, BOTH),
+    (makers.spread, [("row", "short row"), ("step", "step")]),
+    (makers.row_of_rows, BOTH),
+    (slacks.surely_below, LOOSE + [("arc", "arc"), ("level", "content")]),
+    (slacks.surely_above, LOOSE + [("arc", "arc"), ("level", "content")]),
+    (slacks.may_be_silent, LOOSE + [("turn", "turn")]),
+    (slacks.silent_errors, LOOSE + [("turn", "turn")]),
+    (slacks.surely_no_more, LOOSE + [("other", "short row"), ("others", "slacks"), ("arc", "arc")]),
+    (slacks.slack_floor, [("row", "row"), ("arc", "arc"), ("level", "content"), ("parts", "parts")]),
+    (silences.without, [("row", "short row"), ("indexes", "indexes")]),
+    (silences.stays_below, STILL),
+    (silences.worst_silence, STILL),
+    (bearings.reading_at, BOTH + [("turn", "turn")]),
+    (bearings.tells_turn, BOTH + [("arc", "arc")]),
+    (bearings.word_of_reading, BOTH + [("arc", "arc")]),
+    (bearings.folding_turns, BOTH + [("arc", "arc")]),
+    (bearings.turn_side, BOTH + [("arc", "arc"), ("reading", "content"), ("turn", "turn")]),
+    (bearings.turn_floor, BOTH + [("arc", "plain arc"), ("reading", "content"), ("parts", "parts")]),
+    (points.noise_of, [("row", "row")]),
+    (points.gain, [("row", "row"), ("turn", "turn")]),
+    (points.back_wave, [("many", "many"), ("turn", "turn")]),
+    (points.row_through, [("many", "many"), ("points", "points")]),
+    (points.multipliers, [("many", "many"), ("points", "points")]),
+    (points.least_hearing, [("lags", "lags"), ("turn", "turn")]),
 ]
-TELLERS = [complexes.is_complex, turns.is_turn, turns.is_arc, patterns.is_lags]
+TELLERS = [complexes.is_complex, turns.is_turn, turns.is_arc, patterns.is_lags, rows.is_row]
+LASTS = (errors.TooManyMasts, errors.Silent, errors.NotAbove)
 
 
 def fair(parameters):
     """Arguments of which none is refused; those of `turn_of` are on the circle."""
-    return [{"complex": ((3, 5), (-4, 5))}.get(sort, SORTS[sort][2][0]) for _, sort in parameters]
+    return [SORTS[sort][2][0] for _, sort in parameters]
+
+
+def answer(function, *arguments, **named):
+    """What is returned, or the error that is told last."""
+    try:
+        return function(*arguments, **named)
+    except LASTS as error:
+        return error.__class__
 
 
 class Refusals(unittest.TestCase):
-    def refused(self, function, arguments, error, given):
+    def refused(self, function, arguments, error, told):
         with self.assertRaises(errors.MastError) as caught:
             function(*arguments)
         self.assertIs(caught.exception.__class__, error)
-        self.assertIs(caught.exception.given, given)
+        self.assertEqual(len(vars(caught.exception)), 1)
+        self.assertIs(list(vars(caught.exception).values())[0], told)
 
     def test_each_argument_wrong_by_itself(self):
         for function, parameters in FUNCTIONS:
             for k, (_, sort) in enumerate(parameters):
                 error, wrong, _ = SORTS[sort]
-                for j, value in enumerate(wrong):
+                for j, (value, told) in enumerate(wrong):
                     with self.subTest(function.__name__, k=k, j=j):
                         arguments = fair(parameters)
                         arguments[k] = value
-                        self.refused(function, arguments, error, value)
+                        self.refused(function, arguments, error, told)
 
     def test_of_two_wrong_ones_the_first(self):
         for function, parameters in FUNCTIONS:
             for first, second in combinations(range(len(parameters)), 2):
                 error, wrong, _ = SORTS[parameters[first][1]]
-                for j, value in enumerate(wrong):
+                for j, (value, told) in enumerate(wrong):
                     with self.subTest(function.__name__, first=first, second=second, j=j):
                         arguments = fair(parameters)
                         others = SORTS[parameters[second][1]][1]
-                        arguments[first], arguments[second] = value, others[(3 * j + 1) % len(others)]
-                        self.refused(function, arguments, error, value)
+                        arguments[first], arguments[second] = value, others[(3 * j + 1) % len(others)][0]
+                        self.refused(function, arguments, error, told)
 
     def test_all_wrong(self):
         for function, parameters in FUNCTIONS:
             values = [object() for _ in parameters]
-            self.refused(function, values, SORTS[parameters[0][1]][0], values[0])
+            told = None if parameters[0][1] in ("slacks", "indexes", "points") else values[0]
+            self.refused(function, values, SORTS[parameters[0][1]][0], told)
 
     def test_by_name_in_any_order(self):
         for function, parameters in FUNCTIONS:
             for k, (name, sort) in enumerate(parameters):
                 arguments = dict(zip([name for name, _ in parameters][::-1], fair(parameters)[::-1]))
-                self.assertEqual(function(**arguments), function(*fair(parameters)))
-                value = [object()]
-                arguments[name] = value
-                with self.assertRaises(SORTS[sort][0]) as caught:
+                self.assertEqual(answer(function, **arguments), answer(function, *fair(parameters)))
+                arguments[name] = [object()]
+                with self.assertRaises(SORTS[sort][0]):
                     function(**arguments)
-                self.assertIs(caught.exception.given, value, function.__name__)
 
     def test_the_circle_is_asked_for_last(self):
         for value in NO_COMPLEXES:
@@ -107,8 +187,10 @@ class Refusals(unittest.TestCase):
                 for value in SORTS[sort][2]:
                     arguments = fair(parameters)
                     arguments[k] = value
+                    if function is bearings.turn_side and arguments[2] != "all":
+                        arguments[4] = arguments[2][0]
                     if function is not turns.turn_of:
-                        function(*arguments)
+                        answer(function, *arguments)
 
 
 class Interface(unittest.TestCase):
@@ -119,16 +201,20 @@ class Interface(unittest.TestCase):
             self.assertEqual(list(inspect.signature(function).parameters), ["value"])
 
     def test_all_are_defined_in_their_files(self):
-        for module in (complexes, turns, patterns):
+        modules = (complexes, turns, patterns, rows, likes, wishes, makers, slacks, silences, bearings, points)
+        for module in modules:
             own = [function for function, _ in FUNCTIONS if function.__module__ == module.__name__]
+            self.assertTrue(own)
             for function in own:
                 self.assertIs(getattr(module, function.__name__), function)
         self.assertEqual([function.__module__ for function in TELLERS],
-                         ["mastrows.complexes", "mastrows.turns", "mastrows.turns", "mastrows.patterns"])
+                         ["mastrows.complexes", "mastrows.turns", "mastrows.turns", "mastrows.patterns",
+                          "mastrows.rows"])
+        self.assertTrue(all(function.__module__ in [module.__name__ for module in modules] for function, _ in FUNCTIONS))
 
     def test_equal_calls_return_equal_results(self):
         for function, parameters in FUNCTIONS:
-            self.assertEqual(function(*fair(parameters)), function(*fair(parameters)))
+            self.assertEqual(answer(function, *fair(parameters)), answer(function, *fair(parameters)))
 
     def test_tellers_by_position_and_by_name(self):
         for function in TELLERS:
