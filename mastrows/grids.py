@@ -14,25 +14,39 @@ def solved_above(table, sides):
     """
     # All numbers stay whole: each step's pivot divides what the next step makes (Bareiss 1968).
     # The pivots are the determinants of the corners; these are above 0 just if the table is.
-    lines = [line + [sides[k]] for k, line in enumerate(table)]
-    last = 1
-    for at in range(len(lines)):
-        pivot = lines[at][at][0]
+    rest = [line + [sides[k]] for k, line in enumerate(table)]
+    used, last = [], 1
+    while rest:
+        used.append(rest[0])
+        pivot = rest[0][0][0]
         if pivot <= 0:
             return None
-        lines = [line if k == at else line_less(line, lines[at], at, last) for k, line in enumerate(lines)]
+        rest = [shorter_line(line, used[-1], last) for line in rest[1:]]
         last = pivot
-    return [line[-1] for line in lines], last
+    return solved_backward(used, last), last
 
 
-def line_less(line, used, at, last):
-    """The line times the pivot of the used one less what makes its pair at the place 0, divided by last."""
-    pivot, factor = used[at][0], pair_times(line[at], -1)
+def shorter_line(line, used, last):
+    """The line times the pivot of the used one less what makes its first pair 0, divided by last, without this pair."""
+    pivot, factor = used[0][0], pair_times(line[0], -1)
     out = []
-    for pair, other in zip(line, used):
+    for pair, other in zip(line[1:], used[1:]):
         real, side = pair_sum(pair_times(pair, pivot), pair_product(factor, other))
         out.append((real // last, side // last))
     return out
+
+
+def solved_backward(used, last):
+    """The pairs that, divided by last, solve the lines, each of which is one pair shorter than the one before it."""
+    found = []
+    for line in reversed(used):
+        total = pair_times(line[-1], last)
+        for pair, other in zip(line[1:-1], found):
+            total = pair_sum(total, pair_times(pair_product(pair, other), -1))
+        # By Cramer's rule these are whole, too.
+        pivot = line[0][0]
+        found.insert(0, (total[0] // pivot, total[1] // pivot))
+    return found
 
 
 def table_of_lags(pairs):

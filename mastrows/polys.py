@@ -72,13 +72,15 @@ def step_down(poly, divisor):
 
 
 def greatest_divisor(first, second):
-    """A greatest common divisor, primitive, of two polynomials of which the first is not nought."""
+    """A greatest common divisor, primitive and with its last number above 0, of two polynomials
+    of which the first is not nought.
+    """
     first = primitive(first)
     if are_surely_apart(first, second):
         return [1]
     while second:
         first, second = primitive(second), remainder(first, primitive(second))
-    return first
+    return first if first[-1] > 0 else poly_scaled(first, -1)
 
 
 def exact_quotient(poly, divisor):
@@ -101,7 +103,8 @@ def square_free(poly):
 def layers(poly):
     """Polynomials with each of their zeros once: in the k-th those that come more than k times.
 
-    Their product is the polynomial, but for a factor; it is not nought.
+    Their product is the polynomial, which is not nought, but for a factor. If
+    the last number of the polynomial is above 0, so are theirs.
     """
     rest, out = primitive(poly), []
     while len(rest) > 1:

@@ -61,6 +61,7 @@ def parts_by_squares(form):
 
     The form is not nought, and nowhere below 0.
     """
+    # Its last number is above 0, where the polynomial goes to for great turns.
     poly = without_top_noughts(form)
     every = layers(poly)
     twice, once = [1], [1]
@@ -70,8 +71,6 @@ def parts_by_squares(form):
         else:
             deeper = every[k + 1] if k + 1 < len(every) else [1]
             once = poly_product(once, exact_quotient(layer, deeper))
-    if once[-1] < 0:
-        once = [-number for number in once]
     return twice + [0] * ((len(form) - len(poly)) // 2), once
 
 

@@ -185,6 +185,17 @@ class Words(unittest.TestCase):
                 if wanted == "folds":
                     self.folds(one, two, turned, folding_turns(one, two, turned))
 
+    def test_the_same_at_half_and_at_many_turns(self):
+        # nothing is sent toward half, 0, 1, .., 5
+        other = (ONE,)
+        for turn in ("half",) + tuple((k, 1) for k in range(6)):
+            z = oracle.point(turn)
+            other = oracle.product(other, (oracle.told((-z[0], -z[1])), ONE))
+        self.assertEqual(len(other), 8)
+        for row in (LONE, (TWO, ONE), whole(5, 1, 1)):
+            self.assertEqual(self.check(row, other, "all"), "folds")
+            self.assertEqual(self.check(steered(row, (1, 2)), steered(other, (1, 2)), "all"), "folds")
+
     def test_eight_masts(self):
         loud = whole(9, 1, 0, 1, 0, 0, 1, 1)
         for arc in ("all", BOW, ((0, 1), (1, 20)), OVER_HALF):

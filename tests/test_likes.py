@@ -7,6 +7,7 @@ from itertools import product
 import oracle
 from helpers import HUGE, I, LAGS, NIL, ONE, ROWS, TWO, WAVE, real
 from mastrows.complexes import size_square
+from mastrows.cpolys import PRIME
 from mastrows.likes import like_parts, parting_turn, rows_of_power, same_power, trimmed
 from mastrows.makers import back_row, binomial_row, even_row, fed, steered
 from mastrows.patterns import lags_sum
@@ -108,6 +109,16 @@ class LikeParts(unittest.TestCase):
                 self.holds(row, other)
                 self.holds(other, row)
                 self.holds(oracle.product(other, even_row(4)), oracle.product(row, even_row(4)))
+
+    def test_numbers_that_a_great_prime_divides(self):
+        part = (ONE, real(PRIME))
+        for other in (whole(2, 1), whole((1, 1), 3), whole(1, -1, -1)):
+            row = oracle.product(part, other)
+            self.holds(row, oracle.product(part, oracle.mirror(other)))
+            self.holds(row, oracle.mirror(row))
+            self.holds(row, row)
+        self.holds((real(PRIME), I, real(PRIME)), (real(PRIME), I, real(PRIME)))
+        self.holds(oracle.product(part, part, (real(1, PRIME), ONE)), oracle.product(part, part, (ONE, real(1, PRIME))))
 
     def test_unlike_powers(self):
         self.assertIsNone(like_parts((TWO, ONE), (ONE, ONE)))

@@ -109,6 +109,14 @@ class Nulls(unittest.TestCase):
         self.assertEqual([nulls_on(square, "all"), nulls_on(square, ((1, 1), (2, 1)))], [2, 1])
         self.assertEqual([nulls_on((NIL,) + TRIPLE + (NIL,), "all"), nulls_on(whole(5, -8, 5), "all")], [2, 2])
 
+    def test_at_turns_that_a_great_prime_divides(self):
+        for prime in (2 ** 61 - 1, 2305843009213693921):
+            for turn in ((1, prime), (prime, 1), (-2, prime), (prime, 3)):
+                row = steered((ONE, LESS), turn)
+                self.assertEqual([nulls_on(row, "all"), nulls_on(row, (turn, "half")), is_null(row, turn)], [1, 1, True])
+                both = oracle.product(row, (TWO, ONE), row)
+                self.assertEqual([nulls_on(both, "all"), nulls_on(both, ("half", turn))], [1, 1])
+
     def test_rows_without(self):
         for row in ((I,), (NIL, ONE, NIL), (TWO, ONE), (ONE, TWO), (ONE, NIL, NIL, TWO), (real(HUGE), real(HUGE - 1))):
             self.assertEqual(nulls_on(row, "all"), 0)

@@ -5,6 +5,7 @@ import unittest
 
 import oracle
 from helpers import HUGE, I, LAGS, NIL, ONE, TWO, WAVE, real
+from mastrows.factors import near_row, solved, weighted_pairs
 from mastrows.makers import binomial_row, even_row, steered
 from mastrows.patterns import lags_sum, lags_times, pattern_at, turned_lags
 from mastrows.rows import is_row, lags_of
@@ -153,3 +154,24 @@ class LeastRaise(unittest.TestCase):
                     less = oracle.summed(lags, (oracle.told((raised - 1, 0)),), oracle.Fraction(1, parts))
                     self.assertIs(is_wished(less), False)
                     self.assertLess(min(oracle.value(less, dark_turn(less)), *[oracle.value(less, s) for s in SPOTS]), 0)
+
+
+class Steps(unittest.TestCase):
+    """What is not met by the way in which the parts are put together."""
+
+    def test_equations_that_are_not_solved(self):
+        self.assertIsNone(solved([[0, 5]], 8))
+        self.assertIsNone(solved([[1 << 8, 1 << 8, 3], [1 << 8, 1 << 8, 4]], 8))
+        self.assertEqual(solved([[0, 1 << 8, 3], [1 << 8, 0, 4]], 8), [4, 3])
+
+    def test_too_few_bits(self):
+        # the pattern 2 + 2 cos + 1 / 10^30 is not met with numbers of 20 bits
+        far = 10 ** 30
+        pairs = [(2 * far + 1, 0), (far, 0)]
+        self.assertIsNone(near_row(pairs, 19, 20))
+        self.assertIsNotNone(near_row(pairs, 110, 150))
+
+    def test_parts_are_of_as_many_masts(self):
+        for top, bottom, poly in weighted_pairs([(30, 0), (1, 1), (2, -3), (0, 1)]):
+            self.assertTrue(top > 0 and bottom > 0 and 1 <= len(poly) <= 4)
+        self.assertEqual(weighted_pairs([(7, 0)]), [(7, 1, [(1, 0)])])
