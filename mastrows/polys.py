@@ -8,6 +8,8 @@ from math import gcd
 
 # Any prime would do; a great one seldom finds a common divisor that is not there.
 PRIME = 2305843009213693951
+# More of them make it less likely that a guess fails, and the guess slower.
+SPARE_BITS = 64
 
 
 def poly_sum(first, second):
@@ -78,20 +80,64 @@ def greatest_divisor(first, second):
     first = primitive(first)
     if are_surely_apart(first, second):
         return [1]
+    common = first
+    if second:
+        second = primitive(second)
+        common = guessed_divisor(first, second) or stepped_divisor(first, second)
+    return common if common[-1] > 0 else poly_scaled(common, -1)
+
+
+def guessed_divisor(first, second):
+    """A greatest common divisor of two primitive polynomials by that of their values at one great
+    number; None if this tells none (Char, Geddes, Gonnet 1984).
+    """
+    # What divides both, and is made of digits of a common divisor of the values, leaves no factor
+    # over: its value would be greater than a digit, for the zeros are far below the great number.
+    norm = min(max([abs(number) for number in first]), max([abs(number) for number in second]))
+    bits = norm.bit_length() + SPARE_BITS
+    digits = digits_of(gcd(value_of_bits(first, bits), value_of_bits(second, bits)), bits)
+    common = primitive(digits)
+    if exact_quotient(first, common) is None or exact_quotient(second, common) is None:
+        return None
+    return common
+
+
+def value_of_bits(poly, bits):
+    """The polynomial at 2^bits."""
+    total = 0
+    for number in reversed(poly):
+        total = (total << bits) + number
+    return total
+
+
+def digits_of(value, bits):
+    """A polynomial with this value, above 0, at 2^bits, its numbers from - 2^(bits - 1) on and below 2^(bits - 1)."""
+    out, half = [], 1 << bits - 1
+    while value != 0:
+        digit = ((value + half) & (2 * half - 1)) - half
+        value = (value - digit) >> bits
+        out.append(digit)
+    return out
+
+
+def stepped_divisor(first, second):
+    """A greatest common divisor of two primitive polynomials by Euclid's steps."""
     while second:
         first, second = primitive(second), remainder(first, primitive(second))
-    return first if first[-1] > 0 else poly_scaled(first, -1)
+    return first
 
 
 def exact_quotient(poly, divisor):
-    """The polynomial divided by a primitive divisor of it."""
+    """The polynomial divided by a primitive one; None if this does not divide it."""
     rest, out = list(poly), []
     while len(rest) >= len(divisor):
         factor = rest[-1] // divisor[-1]
         gap = len(rest) - len(divisor)
-        rest = poly_sum(rest, [0] * gap + poly_scaled(divisor, -factor))[:-1]
+        rest = poly_sum(rest, [0] * gap + poly_scaled(divisor, -factor))
+        if rest.pop() != 0:
+            return None
         out.append(factor)
-    return out[::-1]
+    return None if without_top_noughts(rest) else out[::-1]
 
 
 def square_free(poly):
