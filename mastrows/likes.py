@@ -2,8 +2,9 @@
 
 from mastrows.complexes import NOUGHT, multiplied, quotient_of
 from mastrows.cpolys import common_bottom, cpoly_quotient, greatest_cdivisor, numbers_over, pairs_over
+from mastrows.forms import form_at
 from mastrows.makers import mirror_of
-from mastrows.patterns import check_lags, filled, form_of, is_nought, sign_row, value_at
+from mastrows.patterns import check_lags, filled, form_of, is_nought, sign_row
 from mastrows.polys import layers, without_top_noughts
 from mastrows.rows import MOST_MASTS, check_row, lags_between, lags_from_row
 from mastrows.turns import ALL
@@ -75,12 +76,11 @@ def has_same_power(row, other):
 
 def any_parting_turn(row, other):
     """A turn at which the powers are unlike; None if there is none."""
-    if has_same_power(row, other):
+    form = form_of(lags_between(row, other))[0]
+    if is_nought(form):
         return None
     # The difference is 0 at fewer turns than these.
-    difference = lags_between(row, other)
-    turns = [(k, 1) for k in range(2 * MOST_MASTS) if value_at(difference, (k, 1)) != (0, 1)]
-    return turns[0]
+    return [(k, 1) for k in range(2 * MOST_MASTS) if form_at(form, (k, 1)) != 0][0]
 
 
 def pairs_off_the_line(poly):
