@@ -4,10 +4,10 @@ import inspect
 import unittest
 from itertools import combinations
 
-from helpers import (ARCS, COMPLEXES, CONTENTS, FRACTIONS, HUGE, INDEXES, LAGS, LOUD, NO_ARCS, NO_COMPLEXES,
+from helpers import (ARCS, COMPLEXES, CONTENTS, FRACTIONS, HUGE, INDEXES, LAGS, LESS, LOUD, NO_ARCS, NO_COMPLEXES,
                      NO_CONTENTS, NO_COUNTS, NO_FEEDS, NO_FRACTIONS, NO_INDEXES, NO_LAGS, NO_MANY, NO_PARTS,
-                     NO_PLAIN_ARCS, NO_POINTS, NO_ROWS, NO_SIGNS, NO_SILENT, NO_SLACKS, NO_STEPS, NO_TURNS, PLAIN_ARCS,
-                     POINTS, ROWS, SLACKS, TURNS)
+                     NO_PLAIN_ARCS, NO_POINTS, NO_ROWS, NO_SIGNS, NO_SILENT, NO_SLACKS, NO_STEPS, NO_TURNS, ONE,
+                     PLAIN_ARCS, POINTS, ROWS, SLACKS, TURNS)
 from mastrows import (bearings, complexes, errors, likes, makers, patterns, points, rows, silences, slacks, turns,
                       wishes)
 
@@ -180,6 +180,26 @@ class Refusals(unittest.TestCase):
             self.refused(turns.turn_of, [value], errors.InvalidComplex, value)
         value = ((HUGE, 1), (0, 1))
         self.refused(turns.turn_of, [value], errors.NotOnCircle, value)
+
+    def test_what_is_told_last(self):
+        # each of these calls would raise an error that is told last, were all arguments right
+        even, pair, arc = ((ONE,) * 8, (ONE, ONE), ((1, 1), (-1, 1)))
+        for function, arguments, sorts in [
+                (makers.joined_rows, [even, even], ["row", "row"]),
+                (makers.row_of_rows, [even, pair], ["row", "row"]),
+                (makers.spread, [even, 2], ["row", "step"]),
+                (bearings.reading_at, [pair, pair, "half"], ["row", "row", "turn"]),
+                (bearings.tells_turn, [pair, pair, arc], ["row", "row", "arc"]),
+                (bearings.word_of_reading, [pair, pair, "all"], ["row", "row", "arc"]),
+                (bearings.folding_turns, [pair, even, arc], ["row", "row", "arc"]),
+                (bearings.turn_side, [pair, even, arc, (1, 1), "half"], ["row", "row", "arc", "content", "turn"]),
+                (bearings.turn_floor, [(ONE, LESS), pair, ((-1, 1), (1, 1)), (1, 1), 9],
+                 ["row", "row", "plain arc", "content", "parts"]),
+                (points.least_hearing, [(ONE, ONE), (0, 1)], ["lags", "turn"])]:
+            self.assertIn(answer(function, *arguments), LASTS)
+            for k, sort in enumerate(sorts):
+                for value, told in SORTS[sort][1][::7]:
+                    self.refused(function, arguments[:k] + [value] + arguments[k + 1:], SORTS[sort][0], told)
 
     def test_what_is_not_refused(self):
         for function, parameters in FUNCTIONS:

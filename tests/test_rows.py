@@ -6,7 +6,7 @@ from itertools import product
 
 import oracle
 from helpers import HALF, HUGE, I, LESS, NIL, NO_ROWS, ONE, ROWS, TWO, WAVE, real
-from mastrows.makers import binomial_row, even_row, steered
+from mastrows.makers import binomial_row, even_row, fed, steered
 from mastrows.patterns import pattern_at, peaks_of
 from mastrows.rows import (is_null, is_row, lags_of, lobes_of, mean_power, more_at, never_more, nulls_on, power_at,
                            sent)
@@ -157,6 +157,17 @@ class NeverMore(unittest.TestCase):
                 for arc in ("all", BEND, ("half", (0, 1))):
                     self.assertIs(never_more(row, other, arc), True)
                     self.assertIsNone(more_at(row, other, arc))
+
+    def test_multiples(self):
+        for row in ROWS[:11] + FACTORS:
+            for factor in (TWO, ((3, 5), (5, 4)), real(-HUGE - 1, HUGE)):
+                more = fed(row, factor)
+                for arc in ("all", BEND, ("half", (0, 1)), ((1, 1), (-1, 1))):
+                    self.assertIs(never_more(row, more, arc), True)
+                    self.assertIs(never_more(more, row, arc), False)
+                    self.assertIsNone(more_at(row, more, arc))
+                    turn = more_at(more, row, arc)
+                    self.assertTrue(is_on(arc, turn) and not is_null(row, turn))
 
     def test_touching(self):
         # 2 + 2 cos is at most 4, and that at 1
