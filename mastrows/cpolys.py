@@ -112,10 +112,16 @@ def without_last_noughts(pairs):
 def evened(poly):
     """A multiple whose last number is real and above 0, without a whole divisor of all numbers."""
     poly = cpoly_times(poly, pair_mirror(poly[-1]))
+    common = greatest_whole(poly)
+    return [(real // common, side // common) for real, side in poly]
+
+
+def greatest_whole(poly):
+    """The greatest whole number that divides all parts of all numbers, which are not all nought."""
     common = 0
     for real, side in poly:
         common = gcd(common, real, side)
-    return [(real // common, side // common) for real, side in poly]
+    return common
 
 
 def step_down(rest, divisor):

@@ -2,7 +2,7 @@
 
 from math import gcd
 
-from mastrows.errors import InvalidContent, InvalidFraction, InvalidNumber
+from mastrows.errors import InvalidAmount, InvalidContent, InvalidFraction, InvalidNumber
 
 
 def is_whole(value):
@@ -33,6 +33,17 @@ def check_content(given):
     """Refuse what is no fraction from 0 on."""
     if not is_content(given):
         raise InvalidContent(given)
+
+
+def is_amount(value):
+    """Whether a value, whatever it is, is a fraction above 0."""
+    return is_fraction(value) and value[0] > 0
+
+
+def check_amount(given):
+    """Refuse what is no fraction above 0."""
+    if not is_amount(given):
+        raise InvalidAmount(given)
 
 
 def check_whole(given, low, high):

@@ -4,7 +4,7 @@ from mastrows.complexes import NOUGHT, is_complex
 from mastrows.cpolys import (NIL, common_bottom, numbers_over, pair_mirror, pair_product, pair_sum, pair_times,
                              pairs_over)
 from mastrows.errors import InvalidPoints, NotAbove
-from mastrows.fracs import check_whole, fraction_quotient
+from mastrows.fracs import check_whole, fraction_quotient, reduced
 from mastrows.grids import solved_above, table_of_lags
 from mastrows.makers import even_feeds
 from mastrows.patterns import check_lags
@@ -62,14 +62,10 @@ def least_hearing(lags, turn):
     """The row of as many masts as lags that sends 1 toward the turn and hears least."""
     check_lags(lags)
     check_turn(turn)
-    many, wave = len(lags), wave_pairs(len(lags), turn)
-    solved = solved_above(table_of_lags(pairs_over(lags, common_bottom(lags))), wave)
-    if solved is None:
+    parts = least_parts(lags, turn)
+    if parts is None:
         raise NotAbove()
-    found = solved[0]
-    # What it sends toward the turn is real: the table tells no other products of one row with itself.
-    loudness = product_of_pairs(found, wave)[0]
-    return numbers_over([pair_times(pair, stretch(many, turn)) for pair in found], loudness)
+    return parts[0]
 
 
 def check_points(given):
@@ -95,6 +91,21 @@ def is_point(value):
 def has_row(many, points):
     """Whether there are no more points than masts, and not all complexes are 0."""
     return len(points) <= many and any([number != NOUGHT for _, number in points])
+
+
+def least_parts(lags, turn):
+    """The pair (ROW, MOST): the row that sends 1 toward the turn and hears least, and what it hears;
+    None if the lags are not above 0.
+    """
+    bottom, wave = common_bottom(lags), wave_pairs(len(lags), turn)
+    solved = solved_above(table_of_lags(pairs_over(lags, bottom)), wave)
+    if solved is None:
+        return None
+    found, whole = solved
+    # What it sends toward the turn is real: the table tells no other products of one row with itself.
+    loudness, long = product_of_pairs(found, wave)[0], stretch(len(lags), turn)
+    row = numbers_over([pair_times(pair, long) for pair in found], loudness)
+    return row, reduced(whole * long * long, bottom * loudness)
 
 
 def stretch(many, turn):

@@ -1,17 +1,14 @@
 """Rows of masts: what they send, their power, lags and nulls."""
 
 from mastrows.complexes import NOUGHT, is_complex, square_of_size
-from mastrows.cpolys import (NIL, common_bottom, composed, lag_pairs, numbers_over, pair_product, pair_sum, pair_times,
+from mastrows.cpolys import (NIL, common_bottom, lag_pairs, numbers_over, pair_product, pair_sum, pair_times,
                              pairs_over)
 from mastrows.errors import InvalidRow
 from mastrows.patterns import any_turn, difference_of, peak_count, sign_row, sign_row_of
-from mastrows.polys import greatest_divisor, without_top_noughts
+from mastrows.sides import common_part, line_parts
 from mastrows.turns import check_arc, check_turn, parts_of_point, vector_of
 
 MOST_MASTS = 8
-# z is ACROSS / ALONG at the turn t: 1 + t i over 1 - t i
-ACROSS = ((1, 0), (0, 1))
-ALONG = ((1, 0), (0, -1))
 
 
 def is_row(value):
@@ -134,9 +131,7 @@ def null_count(row, arc):
 
 def null_form(row):
     """A form that is 0 just toward the nulls of the row."""
-    pairs = composed(pairs_over(row, common_bottom(row)), list(ACROSS), list(ALONG))
-    first = without_top_noughts([pair[0] for pair in pairs])
-    second = without_top_noughts([pair[1] for pair in pairs])
-    common = greatest_divisor(first, second) if first else greatest_divisor(second, first)
+    first, second = line_parts(pairs_over(row, common_bottom(row)))
+    common = common_part(first, second)
     # Both begin below the top of the form just if nothing is sent toward half.
-    return common if max(len(first), len(second)) == len(pairs) else common + [0]
+    return common if max(len(first), len(second)) == len(row) else common + [0]

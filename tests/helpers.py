@@ -110,3 +110,24 @@ NO_POINTS = [(value, None) for value in NO_VALUES + WHOLE if not isinstance(valu
     ((ORIGIN, ((1, 1), ((2, 2), (0, 1)))), 1), ((((0, 1), [(1, 1), (0, 1)]),), 0), ((((0, 1), "1 0"),), 0),
     ((((True, 1), ONE),), 0), (((0, ONE),), 0)]
 POINTS = [(ORIGIN,), (("half", NIL), ORIGIN), EIGHT, ((("ha" + "lf"), I),), (((HUGE, 1), ONE), ((-1, HUGE), NIL))]
+NO_AMOUNTS = NO_CONTENTS + [(0, 1)]
+AMOUNTS = [(1, 1), (3, 4), (7, 2), (HUGE, 1), (1, HUGE)]
+# wrong mirror numbers, and what is told of them
+SEVEN = (HALF,) * 7
+NO_MIRRORS = [(value, None) for value in NO_VALUES + WHOLE if not isinstance(value, tuple)] + [
+    ([HALF], None), ("ab", None), (range(2), None), ((ONE,), 0), ((I,), 0), ((HALF, LESS), 1), ((TWO, HALF), 0),
+    ((((3, 5), (4, 5)),), 0), ((HALF, ((3, 5), (-4, 5))), 1), ((None,), 0), ((HALF, None), 1), ((Touchy(),), 0),
+    ((HALF, Touchy()), 1), (((1, 2),), 0), ((HALF, (1, 2)), 1), ((0,), 0), ((HALF, 0), 1), (HALF, 0),
+    ((((2, 4), (0, 1)),), 0), ((list(HALF),), 0), (((False, (0, 1)),), 0), ((real(HUGE, HUGE - 1),), 0),
+    ((HALF, (real(1, 2), (0, 1))), 1), (SEVEN + (HALF,), 7), (SEVEN + (None,), 7), (SEVEN + (ONE, ONE), 7),
+    (SEVEN[:6] + (ONE,), 6), (SEVEN[:6] + (None, HALF), 6), (SEVEN + SEVEN, 7), ((NIL,) * 8, 7), (("half",), 0)]
+MIRRORS = [(), (HALF,), (NIL,) * 7, SEVEN, (((3, 5), (-3, 5)), real(-9, 10)), (real(HUGE - 1, HUGE),)]
+# rows of the degree 1, and wrong beginnings for them
+LOOPS = [(TWO, ONE), (ONE, real(-3, 7)), (I, LESS), (real(HUGE), I), (((1, HUGE), (HUGE, 7)), ONE), (ONE, ONE, NIL)]
+NO_LOOPS = NO_ROWS + [(NIL, ONE), (NIL, NIL, I), (NIL,) * 7 + (ONE,), (NIL, real(HUGE), NIL)]
+NO_BEGINNINGS = [(value, None) for value in NO_VALUES + WHOLE if not isinstance(value, tuple) or len(value) != 1] + [
+    ([ONE], None), ("a", None), ({0: ONE}, None), ((ONE, ONE), None), (ONE, None), ((None,), 0), ((Touchy(),), 0),
+    (((1, 1),), 0), ((0,), 0), ((list(ONE),), 0), ((((2, 2), (0, 1)),), 0), (("half",), 0), ((((1, 1), 0),), 0),
+    ((((True, 1), (0, 1)),), 0), ((ONE,) * 60, None)]
+BEGINNINGS = [(ONE,), (NIL,), (real(HUGE),), (((1, HUGE), (-HUGE, 7)),)]
+NO_RUNS = NO_VALUES + [-1, 61, 1000, HUGE, -HUGE, (1, 1), (2,), "2", [1]]

@@ -321,3 +321,102 @@ def line(lags):
     while lags and lags[-1] == ((0, 1), (0, 1)):
         lags.pop()
     return tuple(lags)
+
+
+def lag(lags, j):
+    """c_j, for j below 0 the conjugate of c_(-j)."""
+    real, side = number(lags[abs(j)])
+    return real, side if j >= 0 else -side
+
+
+def table_rank(lags):
+    """The rank of the table of the lags, None if some row hears less than 0: each step takes out a mast
+    that hears something by itself. Where none is left that does, all that is left must be nought.
+    """
+    rest = [[lag(lags, k - j) for k in range(len(lags))] for j in range(len(lags))]
+    rank = 0
+    while rest:
+        alone = [line[j][0] for j, line in enumerate(rest)]
+        if min(alone) < 0:
+            return None
+        if max(alone) == 0:
+            return rank if all(entry == (0, 0) for line in rest for entry in line) else None
+        at, rank = alone.index(max(alone)), rank + 1
+        used, rows = rest[at], []
+        for j, line in enumerate(rest):
+            if j != at:
+                factor = line[at][0] / alone[at], line[at][1] / alone[at]
+                parts = [times(factor, other) for other in used]
+                rows.append([(a - c, b - d) for k, ((a, b), (c, d)) in enumerate(zip(line, parts)) if k != at])
+        rest = rows
+    return rank
+
+
+def heard(lags, row):
+    """The sum of x_j * conj(x_k) * c_(j - k)."""
+    plain, total = [number(feed) for feed in row], (Fraction(0), Fraction(0))
+    for j, one in enumerate(plain):
+        for k, other in enumerate(plain):
+            part = times(times(one, (other[0], -other[1])), lag(lags, j - k))
+            total = total[0] + part[0], total[1] + part[1]
+    assert total[1] == 0
+    return total[0]
+
+
+def wave(worth, turn, many):
+    """The lags of a wave: its power times the powers of the turn's point."""
+    z, out = point(turn), [(Fraction(worth), Fraction(0))]
+    for _ in range(many - 1):
+        out.append(times(out[-1], z))
+    return tuple(told(plain) for plain in out)
+
+
+def waves(lot, many):
+    """The lags of a lot of waves, pairs of a power and a turn."""
+    total = (((0, 1), (0, 1)),) * many
+    for worth, turn in lot:
+        total = summed(total, wave(worth, turn, many))
+    return total
+
+
+def determinant(lines):
+    """The determinant of a table of complex numbers, pairs of Python's fractions."""
+    rest, total = [list(line) for line in lines], (Fraction(1), Fraction(0))
+    while rest:
+        found = [k for k, line in enumerate(rest) if line[0] != (0, 0)]
+        if not found:
+            return Fraction(0), Fraction(0)
+        used = rest.pop(found[0])
+        pivot = used[0] if found[0] % 2 == 0 else (-used[0][0], -used[0][1])
+        total = times(total, pivot)
+        size = used[0][0] ** 2 + used[0][1] ** 2
+        rows = []
+        for line in rest:
+            factor = times(line[0], (used[0][0] / size, -used[0][1] / size))
+            parts = [times(factor, other) for other in used]
+            rows.append([(a - c, b - d) for (a, b), (c, d) in zip(line[1:], parts[1:])])
+        rest = rows
+    return total
+
+
+def table(lags):
+    return [[lag(lags, k - j) for k in range(len(lags))] for j in range(len(lags))]
+
+
+def stays_inside(row):
+    """Whether all zeros of the row are inside the circle: at each step (Schur, Cohn) the first feed is smaller
+    than the last one, and the row less a multiple of its mirror is one mast shorter.
+    """
+    plain = [number(feed) for feed in row]
+    while plain and plain[-1] == (0, 0):
+        plain.pop()
+    while len(plain) > 1:
+        first, last = plain[0], plain[-1]
+        if first[0] ** 2 + first[1] ** 2 >= last[0] ** 2 + last[1] ** 2:
+            return False
+        # conj(last) * P - first * mirror(P) is 0 at its beginning
+        mirrored = [(a, -b) for a, b in plain[::-1]]
+        kept = [times((last[0], -last[1]), feed) for feed in plain]
+        taken = [times(first, feed) for feed in mirrored]
+        plain = [(a - c, b - d) for (a, b), (c, d) in zip(kept, taken)][1:]
+    return True

@@ -1,4 +1,4 @@
-"""The examples of the document for these modules, word for word.
+"""The examples of the document, word for word.
 
 >>> from mastrows.complexes import complex_product, complex_sum, conjugate, is_complex, size_square
 >>> from mastrows.turns import back_turn, is_arc, is_on, is_turn, joined_turns, point_of, turn_of, turn_times, turned_arc
@@ -72,15 +72,58 @@
 (None, None, True)
 >>> least_hearing((two, one), (0, 1)) == (half, half), least_hearing((two, one), "half")
 (True, (((1, 2), (0, 1)), ((-1, 2), (0, 1))))
+
+>>> from mastrows.lobes import can_be_below, edge_floor, least_lobe, lobe_row
+>>> least_lobe(1, (1, 1)), least_lobe(2, (1, 1)), least_lobe(3, (1, 1)), least_lobe(3, (3, 4))
+((1, 1), (1, 2), (1, 9), (64, 289))
+>>> lobe_row(2, (1, 1)) == (half, half), lobe_row(3, (3, 4))
+(True, (((25, 68), (0, 1)), ((9, 34), (0, 1)), ((25, 68), (0, 1))))
+>>> can_be_below(3, (1, 1), (1, 9)), can_be_below(3, (1, 1), (1, 10)), edge_floor(3, (1, 9), 4), edge_floor(2, (1, 3), 10), edge_floor(1, (1, 2), 1)
+(True, False, 4, 14, None)
+
+>>> from mastrows.patterns import lags_sum
+>>> from mastrows.tables import barring_row, comes_of_waves, heard, most_from, silent_row, wave_lags, wave_rank, waves_on
+>>> side = wave_lags((2, 1), (1, 1), 3)
+>>> mix = lags_sum(side, wave_lags((1, 1), (0, 1), 3))
+>>> [side, mix, heard(mix, pair)]
+[(((2, 1), (0, 1)), ((0, 1), (2, 1)), ((-2, 1), (0, 1))), (((3, 1), (0, 1)), ((1, 1), (2, 1)), ((-1, 1), (0, 1))), (8, 1)]
+>>> [comes_of_waves(mix), wave_rank(mix), silent_row(mix), waves_on(mix, ((1, 2), (2, 1))), waves_on(mix, "all")]
+[True, 2, (((0, 1), (1, 1)), ((-1, 1), (-1, 1)), ((1, 1), (0, 1))), 1, 2]
+>>> full, far = (two, one), (one, two)
+>>> [most_from(mix, (1, 1)), most_from(mix, (0, 1)), most_from(mix, "half"), most_from(full, (0, 1)), most_from(full, "half"), wave_rank(full), silent_row(full), comes_of_waves(far), barring_row(mix), heard(far, (((-2, 1), (0, 1)), one)), wave_rank((nil, nil)), silent_row((nil, nil))]
+[(2, 1), (1, 1), (0, 1), (3, 2), (1, 2), 2, None, False, None, (-3, 1), 0, (((1, 1), (0, 1)),)]
+
+>>> from mastrows.nexts import guess_error, guess_row, lags_from, mirrors_of, next_disc
+>>> [next_disc(full), next_disc(mix), next_disc((one,)), mirrors_of(full), guess_row(full), guess_error(full), lags_from((2, 1), (((1, 2), (0, 1)),)) == full]
+[(((1, 2), (0, 1)), (3, 2)), (((1, 1), (-2, 1)), (0, 1)), (((0, 1), (0, 1)), (1, 1)), (((1, 2), (0, 1)),), (((-1, 2), (0, 1)), ((1, 1), (0, 1))), (3, 2), True]
+
+>>> from mastrows.loops import dies_away, is_quickest, loop_run, zeros_split
+>>> half = (((-1, 2), (0, 1)), one)
+>>> [zeros_split(half), zeros_split(pair), zeros_split((one, nil, ((-4, 1), (0, 1)))), zeros_split(flat), zeros_split(lone)]
+[(1, 0, 0), (0, 1, 0), (2, 0, 0), (2, 0, 0), (0, 0, 0)]
+>>> [dies_away(half), dies_away(steep), dies_away(pair), is_quickest(half), is_quickest(steep), is_quickest(pair), loop_run(steep, (((8, 1), (0, 1)),), 3)]
+[False, True, False, False, True, True, (((-4, 1), (0, 1)), ((2, 1), (0, 1)), ((-1, 1), (0, 1)))]
 """
 
 import doctest
 import sys
 import unittest
 
+from mastrows.errors import InvalidRow, NotAbove
+from mastrows.loops import dies_away
+from mastrows.nexts import next_disc
+
 
 class Examples(unittest.TestCase):
     def test_word_for_word(self):
         results = doctest.testmod(sys.modules[__name__])
         self.assertEqual(results.failed, 0)
-        self.assertEqual(results.attempted, 43)
+        self.assertEqual(results.attempted, 61)
+
+    def test_what_raises(self):
+        one, two = ((1, 1), (0, 1)), ((2, 1), (0, 1))
+        with self.assertRaises(NotAbove):
+            next_disc((one, two))
+        with self.assertRaises(InvalidRow) as caught:
+            dies_away((((0, 1), (0, 1)), one, two))
+        self.assertEqual(caught.exception.given, (((0, 1), (0, 1)), ((1, 1), (0, 1)), ((2, 1), (0, 1))))

@@ -4,12 +4,13 @@ import inspect
 import unittest
 from itertools import combinations
 
-from helpers import (ARCS, COMPLEXES, CONTENTS, FRACTIONS, HUGE, INDEXES, LAGS, LESS, LOUD, NO_ARCS, NO_COMPLEXES,
-                     NO_CONTENTS, NO_COUNTS, NO_FEEDS, NO_FRACTIONS, NO_INDEXES, NO_LAGS, NO_MANY, NO_PARTS,
-                     NO_PLAIN_ARCS, NO_POINTS, NO_ROWS, NO_SIGNS, NO_SILENT, NO_SLACKS, NO_STEPS, NO_TURNS, ONE,
-                     PLAIN_ARCS, POINTS, ROWS, SLACKS, TURNS)
-from mastrows import (bearings, complexes, errors, likes, makers, patterns, points, rows, silences, slacks, turns,
-                      wishes)
+from helpers import (AMOUNTS, ARCS, BEGINNINGS, COMPLEXES, CONTENTS, FRACTIONS, HUGE, INDEXES, LAGS, LESS, LOOPS, LOUD,
+                     MIRRORS, NIL, NO_AMOUNTS, NO_ARCS, NO_BEGINNINGS, NO_COMPLEXES, NO_CONTENTS, NO_COUNTS, NO_FEEDS,
+                     NO_FRACTIONS, NO_INDEXES, NO_LAGS, NO_LOOPS, NO_MANY, NO_MIRRORS, NO_PARTS, NO_PLAIN_ARCS,
+                     NO_POINTS, NO_ROWS, NO_RUNS, NO_SIGNS, NO_SILENT, NO_SLACKS, NO_STEPS, NO_TURNS, ONE, PLAIN_ARCS,
+                     POINTS, ROWS, SLACKS, TURNS, real)
+from mastrows import (bearings, complexes, errors, likes, lobes, loops, makers, nexts, patterns, points, rows, silences,
+                      slacks, tables, turns, wishes)
 
 
 def plain(values):
@@ -38,6 +39,11 @@ SORTS = {
     "slacks": (errors.InvalidSlacks, NO_SLACKS, SLACKS),
     "indexes": (errors.InvalidIndexes, NO_INDEXES, INDEXES),
     "points": (errors.InvalidPoints, NO_POINTS, POINTS),
+    "amount": (errors.InvalidAmount, plain(NO_AMOUNTS), AMOUNTS),
+    "mirrors": (errors.InvalidMirrors, NO_MIRRORS, MIRRORS),
+    "loop": (errors.InvalidRow, plain(NO_LOOPS), LOOPS),
+    "beginning": (errors.InvalidBeginning, NO_BEGINNINGS, BEGINNINGS),
+    "run": (errors.InvalidNumber, plain(NO_RUNS), [3, 0, 1, 2, 59, 60]),
 }
 BOTH = [("row", "short row"), ("other", "short row")]
 LOOSE = [("row", "short row"), ("slacks", "slacks")]
@@ -113,6 +119,27 @@ FUNCTIONS = [
     (points.row_through, [("many", "many"), ("points", "points")]),
     (points.multipliers, [("many", "many"), ("points", "points")]),
     (points.least_hearing, [("lags", "lags"), ("turn", "turn")]),
+    (lobes.least_lobe, [("many", "many"), ("edge", "amount")]),
+    (lobes.lobe_row, [("many", "many"), ("edge", "amount")]),
+    (lobes.can_be_below, [("many", "many"), ("edge", "amount"), ("level", "content")]),
+    (lobes.edge_floor, [("many", "many"), ("level", "content"), ("parts", "parts")]),
+    (tables.heard, [("lags", "lags"), ("row", "row")]),
+    (tables.comes_of_waves, [("lags", "lags")]),
+    (tables.barring_row, [("lags", "lags")]),
+    (tables.wave_rank, [("lags", "lags")]),
+    (tables.silent_row, [("lags", "lags")]),
+    (tables.waves_on, [("lags", "lags"), ("arc", "arc")]),
+    (tables.most_from, [("lags", "lags"), ("turn", "turn")]),
+    (tables.wave_lags, [("amount", "amount"), ("turn", "turn"), ("many", "many")]),
+    (nexts.next_disc, [("lags", "lags")]),
+    (nexts.mirrors_of, [("lags", "lags")]),
+    (nexts.guess_row, [("lags", "lags")]),
+    (nexts.guess_error, [("lags", "lags")]),
+    (nexts.lags_from, [("amount", "amount"), ("mirrors", "mirrors")]),
+    (loops.zeros_split, [("row", "row")]),
+    (loops.dies_away, [("row", "loop")]),
+    (loops.is_quickest, [("row", "row")]),
+    (loops.loop_run, [("row", "loop"), ("beginning", "beginning"), ("count", "run")]),
 ]
 TELLERS = [complexes.is_complex, turns.is_turn, turns.is_arc, patterns.is_lags, rows.is_row]
 LASTS = (errors.TooManyMasts, errors.Silent, errors.NotAbove)
@@ -195,7 +222,12 @@ class Refusals(unittest.TestCase):
                 (bearings.turn_side, [pair, even, arc, (1, 1), "half"], ["row", "row", "arc", "content", "turn"]),
                 (bearings.turn_floor, [(ONE, LESS), pair, ((-1, 1), (1, 1)), (1, 1), 9],
                  ["row", "row", "plain arc", "content", "parts"]),
-                (points.least_hearing, [(ONE, ONE), (0, 1)], ["lags", "turn"])]:
+                (points.least_hearing, [(ONE, ONE), (0, 1)], ["lags", "turn"]),
+                (tables.heard, [(ONE,), pair], ["lags", "row"]),
+                (nexts.next_disc, [(NIL, ONE)], ["lags"]),
+                (nexts.mirrors_of, [(NIL, NIL)], ["lags"]),
+                (nexts.guess_row, [(ONE, ONE)], ["lags"]),
+                (nexts.guess_error, [(real(-1),)], ["lags"])]:
             self.assertIn(answer(function, *arguments), LASTS)
             for k, sort in enumerate(sorts):
                 for value, told in SORTS[sort][1][::7]:
@@ -221,7 +253,8 @@ class Interface(unittest.TestCase):
             self.assertEqual(list(inspect.signature(function).parameters), ["value"])
 
     def test_all_are_defined_in_their_files(self):
-        modules = (complexes, turns, patterns, rows, likes, wishes, makers, slacks, silences, bearings, points)
+        modules = (complexes, turns, patterns, rows, likes, wishes, makers, slacks, silences, bearings, points, lobes,
+                   tables, nexts, loops)
         for module in modules:
             own = [function for function, _ in FUNCTIONS if function.__module__ == module.__name__]
             self.assertTrue(own)
