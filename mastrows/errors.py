@@ -8,6 +8,9 @@ long numbers, and an error must be there for these, too.
 class MastError(ValueError):
     """An argument is refused, or a question has no answer."""
 
+    def __eq__(self, other):
+        return self is other
+
 
 class InvalidFraction(MastError):
     """The value is no fraction."""

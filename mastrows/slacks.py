@@ -2,13 +2,15 @@
 
 from math import isqrt
 
-from mastrows.complexes import NOUGHT, stretched
+from mastrows.complexes import NOUGHT, added, square_of_size, stretched
+from mastrows.cpolys import common_bottom, pairs_over
 from mastrows.errors import InvalidSlacks
 from mastrows.fracs import (check_content, check_whole, fraction_back, fraction_less, fraction_product,
                             fraction_quotient, fraction_sum, is_content)
-from mastrows.patterns import (MOST_PARTS, difference_of, lone_lags, lowest, product_of, sign_row_of, sum_of, times_of)
+from mastrows.patterns import (MOST_PARTS, any_turn, difference_of, lone_lags, lowest, product_of, sign_row_of, sum_of,
+                               times_of)
 from mastrows.rows import check_row, lags_between, lags_from_row, power_toward, sent_toward
-from mastrows.turns import check_arc, check_turn, numbers_turned_back
+from mastrows.turns import ALL, HALF, check_arc, check_turn, numbers_turned_back, point_toward, turn_toward, vector_of
 
 
 def surely_below(row, slacks, arc, level):
@@ -121,3 +123,33 @@ def errors_toward(wave, slacks, turn):
     total = sum_of_slacks(slacks)
     shares = [stretched(wave, fraction_quotient(slack, total)) for slack in slacks]
     return numbers_turned_back(shares, turn)
+
+
+def worst_errors(row, slacks, arc, level):
+    """A turn of the arc and errors within the slacks with which the size is above the level there;
+    the size is known not to be surely at most the level.
+    """
+    total = sum_of_slacks(slacks)
+    room = fraction_less(level, total)
+    if room[0] >= 0:
+        turn = any_turn(lags_less_square(row, room), arc, 1)
+    else:
+        turn = HALF if arc == ALL else arc[0]
+    wave, most = sent_toward(row, turn), fraction_product(level, level)
+    bits, unit = 8, unit_near(wave, 8)
+    while fraction_less(square_of_size(added(wave, stretched(unit, total))), most)[0] <= 0:
+        bits = 2 * bits
+        unit = unit_near(wave, bits)
+    return turn, numbers_turned_back([stretched(unit, slack) for slack in slacks], turn)
+
+
+def unit_near(number, bits):
+    """A complex number of size 1 that has nearly the angle of the number, the nearer the more bits."""
+    if number == NOUGHT:
+        return (1, 1), (0, 1)
+    real, side = pairs_over([number], common_bottom([number]))[0]
+    size = isqrt((real * real + side * side) << 2 * bits)
+    real, side = real << bits, side << bits
+    # The tangent of half the angle is SIDE / (SIZE + REAL), which is (SIZE - REAL) / SIDE, too.
+    vector = (side, size + real) if real > 0 else (size - real, side)
+    return point_toward(vector_of(turn_toward(vector)))

@@ -106,6 +106,13 @@ def is_within(arc, turn):
     return behind_low or ahead_of_high
 
 
+def is_ahead(arc, first, second):
+    """Whether of two turns of the arc the first one comes ahead of the second one in its order."""
+    if arc == ALL:
+        return comes_before(first, second)
+    return first not in (second, arc[1]) and is_within((first, arc[1]), second)
+
+
 def turned_arc(arc, turn):
     """The arc of all directions of the arc, each joined with the turn."""
     check_arc(arc)

@@ -4,13 +4,13 @@ import inspect
 import unittest
 from itertools import combinations
 
-from helpers import (AMOUNTS, ARCS, BEGINNINGS, COMPLEXES, CONTENTS, FRACTIONS, HUGE, INDEXES, LAGS, LESS, LOOPS, LOUD,
+from helpers import (AMOUNTS, ARCS, BEGINNINGS, COMPLEXES, CONTENTS, EIGHT, FRACTIONS, HUGE, INDEXES, LAGS, LESS, LOOPS, LOUD,
                      MIRRORS, NIL, NO_AMOUNTS, NO_ARCS, NO_BEGINNINGS, NO_COMPLEXES, NO_CONTENTS, NO_COUNTS, NO_FEEDS,
                      NO_FRACTIONS, NO_INDEXES, NO_LAGS, NO_LOOPS, NO_MANY, NO_MIRRORS, NO_PARTS, NO_PLAIN_ARCS,
                      NO_POINTS, NO_ROWS, NO_RUNS, NO_SIGNS, NO_SILENT, NO_SLACKS, NO_STEPS, NO_TURNS, ONE, PLAIN_ARCS,
                      POINTS, ROWS, SLACKS, TURNS, real)
-from mastrows import (bearings, complexes, errors, likes, lobes, loops, makers, nexts, patterns, points, rows, silences,
-                      slacks, tables, turns, wishes)
+from mastrows import (bearings, certificates, complexes, errors, likes, lobes, loops, makers, nexts, patterns, points, rows,
+                      silences, slacks, tables, turns, wishes)
 
 
 def plain(values):
@@ -140,9 +140,25 @@ FUNCTIONS = [
     (loops.dies_away, [("row", "loop")]),
     (loops.is_quickest, [("row", "row")]),
     (loops.loop_run, [("row", "loop"), ("beginning", "beginning"), ("count", "run")]),
+    (certificates.certify_power, [("row", "row"), ("other", "row")]),
+    (certificates.certify_like, [("row", "row"), ("other", "row")]),
+    (certificates.certify_never, [("row", "row"), ("other", "row"), ("arc", "arc")]),
+    (certificates.certify_null, [("row", "row"), ("turn", "turn")]),
+    (certificates.certify_nulls, [("row", "row"), ("arc", "arc")]),
+    (certificates.certify_wish, [("lags", "lags")]),
+    (certificates.certify_sure, LOOSE + [("arc", "arc"), ("level", "content")]),
+    (certificates.certify_bearing, BOTH + [("arc", "arc")]),
+    (certificates.certify_silence, STILL),
+    (certificates.certify_waves, [("lags", "lags")]),
+    (certificates.certify_rank, [("lags", "lags")]),
+    (certificates.certify_best, [("many", "many"), ("points", "points")]),
+    (certificates.certify_gain, [("row", "row"), ("turn", "turn")]),
+    (certificates.certify_lobe, [("many", "many"), ("edge", "amount")]),
+    (certificates.certify_life, [("row", "loop")]),
+    (certificates.certify_split, [("row", "row")]),
 ]
 TELLERS = [complexes.is_complex, turns.is_turn, turns.is_arc, patterns.is_lags, rows.is_row]
-LASTS = (errors.TooManyMasts, errors.Silent, errors.NotAbove)
+LASTS = (errors.TooManyMasts, errors.Silent, errors.NotAbove, errors.NoRow)
 
 
 def fair(parameters):
@@ -227,7 +243,10 @@ class Refusals(unittest.TestCase):
                 (nexts.next_disc, [(NIL, ONE)], ["lags"]),
                 (nexts.mirrors_of, [(NIL, NIL)], ["lags"]),
                 (nexts.guess_row, [(ONE, ONE)], ["lags"]),
-                (nexts.guess_error, [(real(-1),)], ["lags"])]:
+                (nexts.guess_error, [(real(-1),)], ["lags"]),
+                (certificates.certify_bearing, [pair, pair, "all"], ["row", "row", "arc"]),
+                (certificates.certify_rank, [(NIL, ONE)], ["lags"]),
+                (certificates.certify_best, [1, EIGHT], ["many", "points"])]:
             self.assertIn(answer(function, *arguments), LASTS)
             for k, sort in enumerate(sorts):
                 for value, told in SORTS[sort][1][::7]:
@@ -254,7 +273,7 @@ class Interface(unittest.TestCase):
 
     def test_all_are_defined_in_their_files(self):
         modules = (complexes, turns, patterns, rows, likes, wishes, makers, slacks, silences, bearings, points, lobes,
-                   tables, nexts, loops)
+                   tables, nexts, loops, certificates)
         for module in modules:
             own = [function for function, _ in FUNCTIONS if function.__module__ == module.__name__]
             self.assertTrue(own)
