@@ -7,8 +7,9 @@ from fractions import Fraction
 
 import oracle
 from helpers import EIGHT, HALF, HUGE, I, LAGS, LESS, NIL, ONE, TWO, WAVE, real
-from mastrows.certificates import (certify_bearing, certify_best, certify_gain, certify_life, certify_like, certify_lobe,
-                                   certify_never, certify_null, certify_nulls, certify_power, certify_rank, certify_silence,
+from mastrows.certificates import (certify_bearing, certify_best, certify_gain, certify_life, certify_like,
+                                   certify_lobe, certify_never, certify_null, certify_nulls, certify_power, certify_rank,
+                                   certify_silence,
                                    certify_split, certify_sure, certify_waves, certify_wish)
 from mastrows.checker import accepts
 from mastrows.errors import NoRow, NotAbove, Silent
@@ -262,7 +263,8 @@ class Bearings(Certificates):
         for many in (3, 30, 300):
             arc = ((-1, 10 ** many + 7), (1, 10 ** many))
             self.assertEqual(self.told(certify_bearing, LONE, PAIR, arc)[0][0], "folds")
-            self.assertEqual(self.told(certify_bearing, LONE, steered(PAIR, "half"), ((10 ** many, 1), (-1, 1)))[0][0], "folds")
+            self.assertEqual(self.told(certify_bearing, LONE, steered(PAIR, "half"), ((10 ** many, 1), (-1, 1)))[0][0],
+                             "folds")
             self.assertEqual(self.told(certify_bearing, LONE, PAIR, ((0, 1), (1, 10 ** many)))[0][0], "tells")
             self.assertEqual(self.told(certify_bearing, LONE, PAIR, ((-1, 10 ** many), (0, 1)))[0][0], "tells")
 
@@ -351,7 +353,8 @@ class Points(Certificates):
                 self.assertEqual(oracle.told(oracle.sent(claim[3], turn)), number)
 
     def test_no_rows(self):
-        for many, points in [(1, EIGHT), (7, EIGHT), (3, EIGHT[:4]), (2, (((0, 1), NIL),)), (8, (("half", NIL), ((0, 1), NIL)))]:
+        for many, points in [(1, EIGHT), (7, EIGHT), (3, EIGHT[:4]), (2, (((0, 1), NIL),)),
+                             (8, (("half", NIL), ((0, 1), NIL)))]:
             with self.assertRaises(NoRow) as caught:
                 certify_best(many, points)
             self.assertEqual(vars(caught.exception), {})
@@ -363,7 +366,8 @@ class Points(Certificates):
             row, turn = some_row(dice), dice.choice(SPOTS)
             claim, _ = self.told(certify_gain, row, turn)
             self.assertEqual(claim[3], gain(row, turn))
-            self.assertEqual(oracle.fraction(claim[3]) * oracle.fraction(oracle.lags(row)[0][0]), oracle.power(row, turn))
+            self.assertEqual(oracle.fraction(claim[3]) * oracle.fraction(oracle.lags(row)[0][0]),
+                             oracle.power(row, turn))
 
     def test_lobe(self):
         for many in range(1, 9):
@@ -394,7 +398,8 @@ class Whole(Certificates):
                 (certify_null, "row turn"), (certify_nulls, "row arc"), (certify_wish, "lags"),
                 (certify_sure, "row slacks arc level"), (certify_bearing, "row other arc"),
                 (certify_silence, "row count arc level"), (certify_waves, "lags"), (certify_rank, "lags"),
-                (certify_best, "many points"), (certify_gain, "row turn"), (certify_lobe, "many edge"), (certify_life, "row"),
+                (certify_best, "many points"), (certify_gain, "row turn"), (certify_lobe, "many edge"),
+                (certify_life, "row"),
                 (certify_split, "row")]:
             self.assertEqual(" ".join(inspect.signature(function).parameters), names)
             self.assertEqual(function.__module__, "mastrows.certificates")

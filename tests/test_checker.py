@@ -11,7 +11,7 @@ from mastrows.checker import accepts
 from mastrows.lobes import least_lobe
 from mastrows.points import gain, multipliers, row_through
 from mastrows.rows import lags_of
-from samples import ROOT_TWO, whole
+from samples import ROOT_TWO
 
 PAIR, TRIPLE, STEEP, FLAT, LONE = (ONE, ONE), (ONE, ONE, ONE), (TWO, ONE), (NIL, ONE, TWO), (ONE,)
 BOW, NEAR, OVER = ((0, 1), (1, 1)), ((-1, 3), (1, 3)), ((1, 1), (-1, 1))
@@ -27,9 +27,11 @@ SO = [
     (("same power", STEEP, FLAT), [()]),
     (("same power", PAIR, (I, I)), [()]),
     (("unlike power", PAIR, STEEP), ["half", (0, 1), (1, 1), (-7, 3), (HUGE, 1)]),
-    (("like", STEEP, FLAT), [((ONE,), STEEP, ONE), ((TWO,), (ONE, HALF), ONE), ((I,), (((0, 1), (-2, 1)), ((0, 1), (-1, 1))), LESS)]),
+    (("like", STEEP, FLAT), [((ONE,), STEEP, ONE), ((TWO,), (ONE, HALF), ONE),
+                             ((I,), (((0, 1), (-2, 1)), ((0, 1), (-1, 1))), LESS)]),
     (("like", PAIR, (I, I)), [(PAIR, (ONE,), I), ((ONE,), PAIR, I)]),
-    (("like", (NIL, TWO, NIL), (((0, 1), (2, 1)),)), [((TWO,), (ONE,), I), ((ONE,), (TWO,), I), ((I,), (((0, 1), (-2, 1)),), ((0, 1), (-1, 1)))]),
+    (("like", (NIL, TWO, NIL), (((0, 1), (2, 1)),)), [((TWO,), (ONE,), I), ((ONE,), (TWO,), I),
+                                                      ((I,), (((0, 1), (-2, 1)),), ((0, 1), (-1, 1)))]),
     (("never more", PAIR, TRIPLE, ((0, 1), (1, 2))), [()]),
     (("never more", PAIR, (I, I), "all"), [()]),
     (("more", PAIR, TRIPLE, "all"), [(2, 1), (-2, 1), (3, 2)]),
@@ -40,22 +42,27 @@ SO = [
     (("nulls", PAIR, BOW, 0), [()]),
     (("nulls", PAIR, ("half", (0, 1)), 1), [()]),
     (("wished", WAVE), [(((1, 1), PAIR),), (((1, 2), PAIR), ((1, 2), PAIR)), (((1, 4), (TWO, TWO)),),
-                        (((1, 1), (NIL, NIL, I, I)),), (((1, 2), (LESS, LESS)), ((1, 4), PAIR), ((1, 4), (I, I, NIL)))]),
+                        (((1, 1), (NIL, NIL, I, I)),), (((1, 2), (LESS, LESS)), ((1, 4), PAIR),
+                                                        ((1, 4), (I, I, NIL)))]),
     (("wished", (NIL,)), [()]),
     (("wished", (NIL,) * 8), [()]),
-    (("wished", (real(5),)), [(((5, 1), (ONE,)),), (((2, 1), (ONE,)), ((3, 1), (NIL, I))), (((5, 4), (ONE, NIL, NIL)), ((15, 4), (I,))),
+    (("wished", (real(5),)), [(((5, 1), (ONE,)),), (((2, 1), (ONE,)), ((3, 1), (NIL, I))),
+                              (((5, 4), (ONE, NIL, NIL)), ((15, 4), (I,))),
                               (((5, 4), (ONE, NIL, ONE)), ((5, 4), (ONE, NIL, LESS)))]),
     (("dark", (ONE, ONE)), ["half", (3, 1), (-2, 1)]),
     (("dark", ROOT_TWO), [(0, 1), (1, 1), (-1, 1)]),
     (("sure", PAIR, QUARTERS, BOW, (5, 2)), [()]),
     (("sure", PAIR, ((0, 1), (0, 1)), "all", (2, 1)), [()]),
-    (("unsure", PAIR, QUARTERS, BOW, (2, 1)), [((0, 1), PUSH), ((0, 1), (real(1, 5), NIL)), ((0, 1), (((3, 20), (1, 5)), real(1, 4)))]),
+    (("unsure", PAIR, QUARTERS, BOW, (2, 1)), [((0, 1), PUSH), ((0, 1), (real(1, 5), NIL)),
+                                               ((0, 1), (((3, 20), (1, 5)), real(1, 4)))]),
     (("unsure", PAIR, QUARTERS, "all", (249, 100)), [((0, 1), PUSH)]),
-    (("unsure", PAIR, ((5, 1), (0, 1)), OVER, (4, 1)), [("half", (real(5), NIL)), ("half", (real(-5), NIL)), ("half", (((3, 1), (4, 1)), NIL)),
+    (("unsure", PAIR, ((5, 1), (0, 1)), OVER, (4, 1)), [("half", (real(5), NIL)), ("half", (real(-5), NIL)),
+                                                        ("half", (((3, 1), (4, 1)), NIL)),
                                                       ((1, 1), (real(5), NIL))]),
     (("unsure", PAIR, ((0, 1), (0, 1)), BOW, (1, 1)), [((0, 1), (NIL, NIL)), ((1, 1), (NIL, NIL))]),
     (("tells", LONE, PAIR, BOW), [()]),
-    (("folds", LONE, PAIR, NEAR), [((-1, 3), (0, 1), (1, 3)), ((-1, 4), (1, 100), (1, 5)), ((-1, 3), (-1, 100), (1, 3))]),
+    (("folds", LONE, PAIR, NEAR), [((-1, 3), (0, 1), (1, 3)), ((-1, 4), (1, 100), (1, 5)),
+                                   ((-1, 3), (-1, 100), (1, 3))]),
     (("folds", LONE, PAIR, "all"), [("half", (0, 1), (1, 1)), ((-1, 1), (0, 1), (7, 1)), ("half", (-1, 1), (5, 1))]),
     (("folds", LONE, PAIR, OVER), [((1, 1), "half", (-1, 1)), ((2, 1), (-9, 1), (-3, 1)), ((1, 1), (50, 1), (-40, 1))]),
     (("same reading", LONE, (TWO,), NEAR), [()]),
@@ -63,7 +70,8 @@ SO = [
     (("stays below", TRIPLE, 1, "all", (4, 1)), [()]),
     (("stays below", (ONE, LESS), 2, NEAR, (0, 1)), [()]),
     (("stays below", (ONE,), 2, "all", (0, 1)), [()]),
-    (("may pass", TRIPLE, 1, "all", (3, 1)), [((0,), (0, 1)), ((2,), (0, 1)), ((1,), (0, 1)), ((1,), "half"), ((0,), (1, 5))]),
+    (("may pass", TRIPLE, 1, "all", (3, 1)), [((0,), (0, 1)), ((2,), (0, 1)), ((1,), (0, 1)), ((1,), "half"),
+                                              ((0,), (1, 5))]),
     (("may pass", TRIPLE, 0, BOW, (8, 1)), [((), (0, 1)), ((), (1, 100))]),
     (("may pass", TRIPLE, 2, BOW, (1, 2)), [((0, 1), (0, 1)), ((0, 2), (1, 1)), ((1, 2), (1, 7))]),
     (("of waves", MIX), [()]),
@@ -93,35 +101,53 @@ SO = [
 # claims that are not so, and such as are none: what is wrong is told beside some
 NOT_SO = [
     ("same power", STEEP, PAIR), ("same power", LONE, (real(HUGE, HUGE + 1),)), ("unlike power", STEEP, FLAT),
-    ("like", STEEP, PAIR), ("like", STEEP, (real(4), TWO)), ("never more", PAIR, TRIPLE, "all"), ("never more", TRIPLE, PAIR, NEAR),
-    ("never more", (real(HUGE + 1, HUGE),), LONE, OVER), ("more", PAIR, TRIPLE, ((0, 1), (1, 2))), ("more", PAIR, PAIR, "all"),
+    ("like", STEEP, PAIR), ("like", STEEP, (real(4), TWO)), ("never more", PAIR, TRIPLE, "all"),
+    ("never more", TRIPLE, PAIR, NEAR),
+    ("never more", (real(HUGE + 1, HUGE),), LONE, OVER), ("more", PAIR, TRIPLE, ((0, 1), (1, 2))),
+    ("more", PAIR, PAIR, "all"),
     ("null", PAIR, (HUGE, 1)), ("null", STEEP, "half"), ("heard there", PAIR, "half"), ("nulls", TRIPLE, "all", 1),
-    ("nulls", TRIPLE, "all", 3), ("nulls", PAIR, BOW, 1), ("nulls", PAIR, BOW, -1), ("wished", (ONE, ONE)), ("wished", ROOT_TWO),
-    ("wished", (real(-1),)), ("dark", WAVE), ("dark", (NIL,)), ("dark", lags_of(TRIPLE)), ("sure", PAIR, QUARTERS, BOW, (2, 1)),
+    ("nulls", TRIPLE, "all", 3), ("nulls", PAIR, BOW, 1), ("nulls", PAIR, BOW, -1), ("wished", (ONE, ONE)),
+    ("wished", ROOT_TWO),
+    ("wished", (real(-1),)), ("dark", WAVE), ("dark", (NIL,)), ("dark", lags_of(TRIPLE)),
+    ("sure", PAIR, QUARTERS, BOW, (2, 1)),
     ("sure", PAIR, ((5, 1), (5, 1)), "all", (1, 1)), ("unsure", PAIR, QUARTERS, BOW, (5, 2)),
     ("unsure", PAIR, ((0, 1), (0, 1)), "all", (2, 1)), ("tells", LONE, PAIR, NEAR), ("tells", LONE, PAIR, "all"),
-    ("tells", LONE, (TWO,), BOW), ("folds", LONE, PAIR, BOW), ("folds", LONE, LONE, NEAR), ("same reading", LONE, PAIR, BOW),
-    ("same reading", LONE, PAIR, NEAR), ("stays below", TRIPLE, 1, "all", (3, 1)), ("stays below", TRIPLE, 0, "all", (8, 1)),
+    ("tells", LONE, (TWO,), BOW), ("folds", LONE, PAIR, BOW), ("folds", LONE, LONE, NEAR),
+    ("same reading", LONE, PAIR, BOW),
+    ("same reading", LONE, PAIR, NEAR), ("stays below", TRIPLE, 1, "all", (3, 1)),
+    ("stays below", TRIPLE, 0, "all", (8, 1)),
     ("may pass", TRIPLE, 1, "all", (4, 1)), ("may pass", LONE, 2, "all", (0, 1)), ("of waves", (ONE, TWO)),
-    ("of waves", (real(-1),)), ("of waves", (NIL, ONE)), ("barred", MIX), ("barred", WAVE), ("barred", (NIL,)), ("rank", MIX, 3),
-    ("rank", MIX, 1), ("rank", WAVE, 1), ("best", 2, POINTS, (HALF, real(1, 3))), ("best", 3, (((1, 1), I),), (I, NIL, NIL)),
+    ("of waves", (real(-1),)), ("of waves", (NIL, ONE)), ("barred", MIX), ("barred", WAVE), ("barred", (NIL,)),
+    ("rank", MIX, 3),
+    ("rank", MIX, 1), ("rank", WAVE, 1), ("best", 2, POINTS, (HALF, real(1, 3))),
+    ("best", 3, (((1, 1), I),), (I, NIL, NIL)),
     ("best", 2, (((0, 1), ONE),), LONE), ("gain", TRIPLE, (0, 1), (2, 1)), ("gain", TRIPLE, (1, 1), (3, 1)),
-    ("least lobe", 3, (3, 4), (64, 290)), ("least lobe", 2, (3, 4), (64, 289)), ("dies away", PAIR), ("dies away", (ONE, TWO)),
-    ("stays", STEEP), ("stays", LONE), ("split", PAIR, (1, 0, 0)), ("split", FLAT, (0, 0, 2)), ("split", FLAT, (1, 0, 1)),
+    ("least lobe", 3, (3, 4), (64, 290)), ("least lobe", 2, (3, 4), (64, 289)), ("dies away", PAIR),
+    ("dies away", (ONE, TWO)),
+    ("stays", STEEP), ("stays", LONE), ("split", PAIR, (1, 0, 0)), ("split", FLAT, (0, 0, 2)),
+    ("split", FLAT, (1, 0, 1)),
     # a null on the arc: no reading
-    ("tells", PAIR, LONE, OVER), ("folds", PAIR, LONE, "all"), ("folds", PAIR, TRIPLE, OVER), ("same reading", PAIR, PAIR, "all"),
+    ("tells", PAIR, LONE, OVER), ("folds", PAIR, LONE, "all"), ("folds", PAIR, TRIPLE, OVER),
+    ("same reading", PAIR, PAIR, "all"),
     # no rank, no row, a first feed 0
-    ("rank", (ONE, TWO), 0), ("rank", (ONE, TWO), 2), ("rank", (ONE, TWO), None), ("best", 2, (((0, 1), NIL),), (ONE, LESS)),
-    ("best", 1, POINTS, (ONE,)), ("best", 2, POINTS + (((1, 1), ONE),), (HALF, HALF)), ("dies away", FLAT), ("stays", FLAT),
+    ("rank", (ONE, TWO), 0), ("rank", (ONE, TWO), 2), ("rank", (ONE, TWO), None),
+    ("best", 2, (((0, 1), NIL),), (ONE, LESS)),
+    ("best", 1, POINTS, (ONE,)), ("best", 2, POINTS + (((1, 1), ONE),), (HALF, HALF)), ("dies away", FLAT),
+    ("stays", FLAT),
     ("dies away", (NIL, ONE)), ("stays", (NIL, ONE)),
     # numbers of masts, of silent ones and the like beyond their bounds
-    ("stays below", TRIPLE, 3, "all", (9, 1)), ("stays below", TRIPLE, -1, "all", (9, 1)), ("may pass", TRIPLE, 3, "all", (0, 1)),
+    ("stays below", TRIPLE, 3, "all", (9, 1)), ("stays below", TRIPLE, -1, "all", (9, 1)),
+    ("may pass", TRIPLE, 3, "all", (0, 1)),
     ("best", 9, POINTS, (HALF, HALF)), ("best", 0, POINTS, (HALF, HALF)), ("least lobe", 0, (1, 1), (1, 1)),
-    ("least lobe", 9, (1, 1), least_lobe(8, (1, 1))), ("least lobe", 2, (0, 1), (1, 1)), ("least lobe", 2, (-1, 1), (1, 2)),
+    ("least lobe", 9, (1, 1), least_lobe(8, (1, 1))), ("least lobe", 2, (0, 1), (1, 1)),
+    ("least lobe", 2, (-1, 1), (1, 2)),
 ]
-STRAYS = [None, True, 0, 1, -1, "", "all", "Half", "same power", [], (), {}, (0, 0), (1, 0), (True, 1), (2, 2), [1, 1], list(PAIR),
-          (PAIR, PAIR), ((1, 1), (1, 1)), (NIL,), (None,), (None, None, None), deep(14), Touchy(), (Touchy(),), (Touchy(), Touchy()),
-          (Touchy(), Touchy(), Touchy()), object(), b"half", int, (((1, 1), Touchy()),), ((0, 1), Touchy()), ((0,), Touchy()),
+STRAYS = [None, True, 0, 1, -1, "", "all", "Half", "same power", [], (), {}, (0, 0), (1, 0), (True, 1), (2, 2), [1, 1],
+          list(PAIR),
+          (PAIR, PAIR), ((1, 1), (1, 1)), (NIL,), (None,), (None, None, None), deep(14), Touchy(), (Touchy(),),
+          (Touchy(), Touchy()),
+          (Touchy(), Touchy(), Touchy()), object(), b"half", int, (((1, 1), Touchy()),), ((0, 1), Touchy()),
+          ((0,), Touchy()),
           (Touchy(), (NIL, NIL)), ((0, 1), (Touchy(), NIL)), (((Touchy(), 1), (0, 1)),), ((0, 1), [NIL, NIL])]
 
 
@@ -151,7 +177,8 @@ class WrongPapers(unittest.TestCase):
 
     def test_strays(self):
         for claim, papers in SO:
-            self.refused(claim, [stray for stray in STRAYS if papers[0] != () or not (isinstance(stray, tuple) and not stray)])
+            strays = [stray for stray in STRAYS if not isinstance(stray, tuple) or len(stray) > 0]
+            self.refused(claim, strays if papers[0] == () else STRAYS)
 
     def test_claims_without_papers(self):
         for claim, papers in SO:
@@ -174,16 +201,22 @@ class WrongPapers(unittest.TestCase):
 
     def test_like(self):
         self.refused(("like", STEEP, FLAT), [
-            (), ((ONE,), STEEP), ((ONE,), STEEP, ONE, ONE), [(ONE,), STEEP, ONE], ((ONE,), STEEP, LESS), ((ONE,), STEEP, I),
+            (), ((ONE,), STEEP), ((ONE,), STEEP, ONE, ONE), [(ONE,), STEEP, ONE], ((ONE,), STEEP, LESS),
+            ((ONE,), STEEP, I),
             (STEEP, (ONE,), ONE), ((ONE,), (ONE, TWO), ONE), ((TWO,), STEEP, ONE), ((TWO,), STEEP, HALF),
             # noughts at the ends: not trimmed
-            ((ONE, NIL), STEEP, ONE), ((ONE,), (TWO, ONE, NIL), ONE), ((NIL, ONE), STEEP, ONE), ((ONE,), (NIL, TWO, ONE), ONE),
-            ((ONE,), STEEP, (1, 1)), ((ONE,), list(STEEP), ONE), ([ONE], STEEP, ONE), ((ONE,), STEEP, [ONE]), ((ONE,), STEEP, None),
+            ((ONE, NIL), STEEP, ONE), ((ONE,), (TWO, ONE, NIL), ONE), ((NIL, ONE), STEEP, ONE),
+            ((ONE,), (NIL, TWO, ONE), ONE),
+            ((ONE,), STEEP, (1, 1)), ((ONE,), list(STEEP), ONE), ([ONE], STEEP, ONE), ((ONE,), STEEP, [ONE]),
+            ((ONE,), STEEP, None),
             (ONE, STEEP, ONE), ((NIL,), STEEP, ONE), ((ONE,), STEEP, ((2, 2), (0, 1))), ((ONE,) * 9, STEEP, ONE)])
         # the factor times FLIPPED's mirror is what is asked for, the size of the factor is 1
-        self.refused(("like", (TWO,), (((0, 1), (2, 1)),)), [((ONE,), (TWO,), ONE), ((TWO,), (TWO,), I), ((HALF,), (TWO,), TWO)])
+        self.refused(("like", (TWO,), (((0, 1), (2, 1)),)), [((ONE,), (TWO,), ONE), ((TWO,), (TWO,), I),
+                                                             ((HALF,), (TWO,), TWO)])
         self.refused(("like", PAIR, PAIR), [((HALF,), (TWO, TWO), LESS), (PAIR, PAIR, ONE)])
         self.assertIs(accepts(("like", PAIR, PAIR), ((HALF,), (TWO, TWO), ONE)), True)
+        # with a factor of another size they are multiples, but not of one power
+        self.refused(("like", STEEP, (real(4), TWO)), [(STEEP, LONE, TWO), (LONE, STEEP, TWO), (STEEP, LONE, ONE)])
 
     def test_more(self):
         self.refused(("more", PAIR, TRIPLE, "all"), [(0, 1), "half", (1, 2), (-9, 1), "all", (4, 2)])
@@ -194,8 +227,10 @@ class WrongPapers(unittest.TestCase):
     def test_wished(self):
         self.refused(("wished", WAVE), [
             (), (((1, 1), STEEP),), (((1, 1), PAIR), ((1, 1), PAIR)), (((0, 1), PAIR), ((1, 1), PAIR)),
-            (((2, 1), PAIR), ((-1, 1), PAIR)), [((1, 1), PAIR)], (((1, 1), list(PAIR)),), (((1, 1),),), (((1, 1), PAIR, ()),),
-            (((2, 2), PAIR),), ((1, PAIR),), ((PAIR, (1, 1)),), ((1, 1), PAIR), (((1, 1), PAIR), None), (((1, 1), (NIL, NIL)),),
+            (((2, 1), PAIR), ((-1, 1), PAIR)), [((1, 1), PAIR)], (((1, 1), list(PAIR)),), (((1, 1),),),
+            (((1, 1), PAIR, ()),),
+            (((2, 2), PAIR),), ((1, PAIR),), ((PAIR, (1, 1)),), ((1, 1), PAIR), (((1, 1), PAIR), None),
+            (((1, 1), (NIL, NIL)),),
             (((HUGE, HUGE + 1), PAIR),), (((1, 1), (ONE, LESS)),), (((1, 1), PAIR), ()), ([(1, 1), PAIR],)])
         self.refused(("wished", (NIL,)), [(((1, 1), ONE),), (((1, 1), (ONE,)),), None, [], (((0, 1), (ONE,)),)])
         # beyond the lags nothing may be left
@@ -213,8 +248,10 @@ class WrongPapers(unittest.TestCase):
         self.refused(claim, [
             (), ((0, 1),), (PUSH, (0, 1)), ((0, 1), PUSH, ()), [(0, 1), PUSH], ((0, 1), list(PUSH)), ((0, 1), PUSH[:1]),
             ((0, 1), PUSH + PUSH), ((-1, 3), PUSH), ("half", PUSH), ((0, 2), PUSH), ((0, 1), (NIL, NIL)),
-            ((0, 1), (real(1, 2), NIL)), ((0, 1), (((1, 4), (1, HUGE)), NIL)), ((0, 1), (((1, 5), (1, 5)), ((1, 5), (0, 1)))),
-            ((0, 1), (real(-1, 4), real(-1, 4))), ((0, 1), ((1, 4), (1, 4))), ((0, 1), (real(1, 4), None)), ((1, 1), PUSH)])
+            ((0, 1), (real(1, 2), NIL)), ((0, 1), (((1, 4), (1, HUGE)), NIL)),
+            ((0, 1), (((1, 5), (1, 5)), ((1, 5), (0, 1)))),
+            ((0, 1), (real(-1, 4), real(-1, 4))), ((0, 1), ((1, 4), (1, 4))), ((0, 1), (real(1, 4), None)),
+            ((1, 1), PUSH)])
         # just the level is not above it
         self.refused(("unsure", PAIR, QUARTERS, BOW, (249, 100)), [((0, 1), (real(1, 4), real(24, 100)))])
         self.refused(("unsure", PAIR, QUARTERS, "all", (5, 2)), [((0, 1), PUSH)])
@@ -222,30 +259,39 @@ class WrongPapers(unittest.TestCase):
 
     def test_folds(self):
         self.refused(("folds", LONE, PAIR, NEAR), [
-            (), ((-1, 3), (0, 1)), ((-1, 3), (0, 1), (1, 3), (1, 3)), [(-1, 3), (0, 1), (1, 3)], ((1, 3), (0, 1), (-1, 3)),
+            (), ((-1, 3), (0, 1)), ((-1, 3), (0, 1), (1, 3), (1, 3)), [(-1, 3), (0, 1), (1, 3)],
+            ((1, 3), (0, 1), (-1, 3)),
             ((0, 1), (-1, 3), (1, 3)), ((-1, 3), (1, 3), (0, 1)), ((-1, 3), (-1, 4), (0, 1)), ((0, 1), (1, 4), (1, 3)),
             ((-1, 2), (0, 1), (1, 3)), ((-1, 3), (0, 1), (1, 2)), ((-1, 3), (-1, 3), (1, 3)), ((-1, 3), (1, 3), (1, 3)),
             ((-1, 4), (1, 4), (1, 3)), ((-1, 3), (1, 4), (1, 4)), ("half", (0, 1), (1, 3)), ((-1, 3), None, (1, 3)),
             ((-1, 3), (0, 2), (1, 3))])
-        self.refused(("folds", LONE, PAIR, "all"), [((-1, 1), (0, 1), "half"), ((1, 1), "half", (-1, 1)), ((7, 1), (0, 1), (-1, 1)),
-                                                    ("half", (-1, 1), "half"), ("half", (1, 1), (0, 1)), ("half", (0, 1), "half")])
-        self.refused(("folds", LONE, PAIR, OVER), [((-1, 1), "half", (1, 1)), ((1, 1), (2, 1), (3, 1)), ((1, 1), (0, 1), (-1, 1)),
+        self.refused(("folds", LONE, PAIR, "all"), [((-1, 1), (0, 1), "half"), ((1, 1), "half", (-1, 1)),
+                                                    ((7, 1), (0, 1), (-1, 1)),
+                                                    ("half", (-1, 1), "half"), ("half", (1, 1), (0, 1)),
+                                                    ("half", (0, 1), "half")])
+        self.refused(("folds", LONE, PAIR, OVER), [((-1, 1), "half", (1, 1)), ((1, 1), (2, 1), (3, 1)),
+                                                   ((1, 1), (0, 1), (-1, 1)),
                                                    ("half", (1, 1), (-1, 1)), ((-9, 1), (9, 1), (-3, 1))])
 
     def test_may_pass(self):
         self.refused(("may pass", TRIPLE, 1, "all", (3, 1)), [
-            (), ((0,),), ((0,), (0, 1), ()), [(0,), (0, 1)], ([0], (0, 1)), ((), (0, 1)), ((0, 1), (0, 1)), ((3,), (0, 1)),
-            ((-1,), (0, 1)), ((True,), (0, 1)), ((0,), (1, 1)), ((0,), "half"), (0, (0, 1)), ((0,), "all"), ((0, 1), (0,)),
+            (), ((0,),), ((0,), (0, 1), ()), [(0,), (0, 1)], ([0], (0, 1)), ((), (0, 1)), ((0, 1), (0, 1)),
+            ((3,), (0, 1)),
+            ((-1,), (0, 1)), ((True,), (0, 1)), ((0,), (1, 1)), ((0,), "half"), (0, (0, 1)), ((0,), "all"),
+            ((0, 1), (0,)),
             ((None,), (0, 1)), (((0,),), (0, 1))])
-        self.refused(("may pass", TRIPLE, 2, BOW, (1, 2)), [((1, 0), (0, 1)), ((0, 0), (0, 1)), ((0,), (0, 1)), ((), (0, 1)),
+        self.refused(("may pass", TRIPLE, 2, BOW, (1, 2)), [((1, 0), (0, 1)), ((0, 0), (0, 1)), ((0,), (0, 1)),
+                                                            ((), (0, 1)),
                                                             ((0, 1, 2), (0, 1)), ((0, 1), (-1, 1)), ((0, 3), (0, 1))])
-        self.refused(("may pass", LONE, 2, "all", (0, 1)), [((0,), (0, 1)), ((), (0, 1)), ((0, 0), (0, 1)), ((0, 1), (0, 1))])
+        self.refused(("may pass", LONE, 2, "all", (0, 1)), [((0,), (0, 1)), ((), (0, 1)), ((0, 0), (0, 1)),
+                                                            ((0, 1), (0, 1))])
         # just the level
         self.refused(("may pass", PAIR, 1, "all", (1, 1)), [((0,), (0, 1)), ((1,), (2, 3))])
         self.assertIs(accepts(("may pass", PAIR, 1, "all", (HUGE - 1, HUGE)), ((1,), (2, 3))), True)
 
     def test_barred(self):
-        self.refused(("barred", (ONE, TWO)), [PAIR, (ONE,), (ONE, LESS, ONE), (ONE, LESS, NIL), list(DOWN), (ONE, NIL), ONE, (NIL, NIL)])
+        self.refused(("barred", (ONE, TWO)), [PAIR, (ONE,), (ONE, LESS, ONE), (ONE, LESS, NIL), list(DOWN), (ONE, NIL),
+                                              ONE, (NIL, NIL)])
         # just 0 is not below it
         self.refused(("barred", (NIL, ONE)), [(ONE,), (NIL, ONE), PAIR, (ONE, I)])
         self.assertIs(accepts(("barred", (NIL, ONE)), (ONE, real(-1, HUGE))), True)
@@ -270,8 +316,10 @@ class Claims(unittest.TestCase):
     def test_each_part_exchanged(self):
         for claim, papers in SO:
             for k in range(len(claim)):
-                for j, stray in enumerate([None, True, -1, "", [], {}, (1, 0), (True, 1), deep(14), Touchy(), (Touchy(),), object(),
-                                           b"all", 10 ** 9, list(claim[k]) if isinstance(claim[k], tuple) else [claim[k]],
+                for j, stray in enumerate([None, True, -1, "", [], {}, (1, 0), (True, 1), deep(14), Touchy(),
+                                           (Touchy(),), object(),
+                                           b"all", 10 ** 9, list(claim[k]) if isinstance(claim[k],
+                                                                                         tuple) else [claim[k]],
                                            (claim[k],), ((Touchy(), (0, 1)),), "same  power"]):
                     with self.subTest(claim[0], k=k, j=j):
                         bent = claim[:k] + (stray,) + claim[k + 1:]
@@ -279,17 +327,20 @@ class Claims(unittest.TestCase):
 
     def test_parts_too_many_or_too_few(self):
         for claim, papers in SO:
-            for bent in [claim[:-1], claim + ((),), claim + (claim[-1],), claim[1:], claim[:1], list(claim), (claim,), claim + claim,
+            for bent in [claim[:-1], claim + ((),), claim + (claim[-1],), claim[1:], claim[:1], list(claim), (claim,),
+                         claim + claim,
                          claim[:1] + claim[2:], (claim[0].upper(),) + claim[1:], (claim[0] + " ",) + claim[1:],
                          (claim[0].encode(),) + claim[1:], (" " + claim[0],) + claim[1:]]:
                 for paper in papers:
                     self.assertIs(accepts(bent, paper), False)
 
     def test_true_and_false_are_no_numbers(self):
-        for claim, papers in [(("nulls", PAIR, "all", True), ()), (("nulls", PAIR, BOW, False), ()), (("rank", (ONE,), True), ()),
+        for claim, papers in [(("nulls", PAIR, "all", True), ()), (("nulls", PAIR, BOW, False), ()),
+                              (("rank", (ONE,), True), ()),
                               (("rank", (NIL,), False), ()), (("stays below", TRIPLE, True, "all", (4, 1)), ()),
                               (("least lobe", True, (1, 1), (1, 1)), ()), (("split", PAIR, (0, True, 0)), ()),
-                              (("split", PAIR, (False, 1, 0)), ()), (("may pass", TRIPLE, False, "all", (8, 1)), ((), (0, 1))),
+                              (("split", PAIR, (False, 1, 0)), ()),
+                              (("may pass", TRIPLE, False, "all", (8, 1)), ((), (0, 1))),
                               (("best", True, (((0, 1), ONE),), LONE), (ONE,)), (("gain", LONE, (0, 1), (True, 1)), ()),
                               (("gain", LONE, (0, 1), (1, True)), ()), (("null", PAIR, (True, 1)), ()),
                               (("may pass", TRIPLE, 1, "all", (3, 1)), ((False,), (0, 1))),
@@ -299,7 +350,8 @@ class Claims(unittest.TestCase):
         self.assertIs(accepts(("nulls", PAIR, "all", 1), ()), True)
 
     def test_counts(self):
-        for counts in [[0, 1, 0], (0, 1), (0, 1, 0, 0), "010", None, ((0, 1, 0),), (0, 1, None), (0, 1, "0"), (0, 1, Touchy())]:
+        for counts in [[0, 1, 0], (0, 1), (0, 1, 0, 0), "010", None, ((0, 1, 0),), (0, 1, None), (0, 1, "0"),
+                       (0, 1, Touchy())]:
             self.assertIs(accepts(("split", PAIR, counts), ()), False)
         for count in [None, "1", (1,), [1], 2, Touchy(), "endless", (1, 1)]:
             self.assertIs(accepts(("nulls", PAIR, "all", count), ()), False)
@@ -328,7 +380,8 @@ class Claims(unittest.TestCase):
         # slacks go with the row, points with the numbers of masts
         for claim in [("sure", PAIR, ((1, 4),), BOW, (5, 2)), ("sure", PAIR, ((1, 4),) * 3, BOW, (5, 2)),
                       ("sure", PAIR, ((1, 4), (-1, 4)), BOW, (5, 2)), ("best", 2, ((0, 1), ONE), (HALF, HALF)),
-                      ("best", 2, POINTS[:1] * 2, (HALF, HALF)), ("best", 2, (), (HALF, HALF)), ("null", (NIL, NIL), "half"),
+                      ("best", 2, POINTS[:1] * 2, (HALF, HALF)), ("best", 2, (), (HALF, HALF)),
+                      ("null", (NIL, NIL), "half"),
                       ("same power", (NIL,), (NIL,)), ("of waves", (I,)), ("of waves", (NIL,) * 9), ("wished", ()),
                       ("stays", (NIL, NIL))]:
             for paper in [(), (HALF, NIL), (HALF,), (HALF, HALF)]:

@@ -7,7 +7,7 @@ import unittest
 from math import gcd
 
 import oracle
-from helpers import HALF, HUGE, I, LESS, NIL, NO_VALUES, ONE, TWO, Touchy, real
+from helpers import HALF, HUGE, I, LESS, NIL, NO_VALUES, ONE, TWO, Touchy
 from mastrows.consoles import Console
 from mastrows.errors import (Broken, InUse, InvalidIndex, InvalidPhrase, InvalidRow, MastError, NotAWorkshop,
                              NothingToUndo, UnknownName)
@@ -19,8 +19,10 @@ from test_workshops import state, stocked
 
 PAIR = (ONE, ONE)
 # lines that are understood of the workshop below
-LINES = ["row a: 1 0; 1 0", "row abcdefghijkl: -3/4 1/2", "row b: 0 0; 1 -1/3; 0 7", "feed a 0: 2 0", "feed b 2: -1/2 0",
-         "forget b", "undo", "show a", "sent a: half", "sent b: -3/4", "power a: 1", "power a: half", "noise a", "nulls a",
+LINES = ["row a: 1 0; 1 0", "row abcdefghijkl: -3/4 1/2", "row b: 0 0; 1 -1/3; 0 7", "feed a 0: 2 0",
+         "feed b 2: -1/2 0",
+         "forget b", "undo", "show a", "sent a: half", "sent b: -3/4", "power a: 1", "power a: half", "noise a",
+         "nulls a",
          "names"]
 
 
@@ -184,20 +186,28 @@ class Phrases(unittest.TestCase):
             self.refused(value)
 
     def test_no_lines(self):
-        for line in ["", " ", ":", ": ", "a", "A", "row", "feed", "forget", "show", "sent", "power", "noise", "nulls", "name",
-                     "undo undo", "names a", "undo a", "names names", "undo:", "undo: ", "names:", "names: ", "show", "show ",
-                     "show a:", "show a: ", "show: a", "show a: 1", "forget a b", "nulls a: half", "noise a: 1", "undo: undo",
+        for line in ["", " ", ":", ": ", "a", "A", "row", "feed", "forget", "show", "sent", "power", "noise", "nulls",
+                     "name",
+                     "undo undo", "names a", "undo a", "names names", "undo:", "undo: ", "names:", "names: ", "show",
+                     "show ",
+                     "show a:", "show a: ", "show: a", "show a: 1", "forget a b", "nulls a: half", "noise a: 1",
+                     "undo: undo",
                      "row a", "row a:", "row a: ", "row: 1 0", "row 1 0", "row a 1 0", "row a 0: 1 0", "row a : 1 0",
-                     "feed a: 1 0", "feed a 0", "feed a 0:", "feed a 0: ", "feed a 0 1 0", "feed a 0 0: 1 0", "feed 0: 1 0",
+                     "feed a: 1 0", "feed a 0", "feed a 0:", "feed a 0: ", "feed a 0 1 0", "feed a 0 0: 1 0",
+                     "feed 0: 1 0",
                      "feed 0 a: 1 0", "sent a", "sent a:", "sent a: ", "sent a half", "sent: half", "sent a: all",
-                     "power a", "power a half", "power a:half", "power a : half", "sent a 0: half", "put a: 1 0", "lift 0",
-                     "demand null a half", "done", "none", "Undo", "UNDO", "Names", "Row a: 1 0", "ROW a: 1 0", "rows a: 1 0"]:
+                     "power a", "power a half", "power a:half", "power a : half", "sent a 0: half", "put a: 1 0",
+                     "lift 0",
+                     "demand null a half", "done", "none", "Undo", "UNDO", "Names", "Row a: 1 0", "ROW a: 1 0",
+                     "rows a: 1 0"]:
             self.refused(line)
 
     def test_numbers(self):
-        for text in ["+1", "-0", "01", "-01", "00", "1.0", "1e3", "1_000", "0x1", "2/4", "3/1", "0/1", "0/2", "1/0", "-1/-2",
+        for text in ["+1", "-0", "01", "-01", "00", "1.0", "1e3", "1_000", "0x1", "2/4", "3/1", "0/1", "0/2", "1/0",
+                     "-1/-2",
                      "1/-2", "+1/2", "1/+2", "1/02", "01/2", "-0/3", "1//2", "/2", "2/", "/", "--1", "1-", "-", "1/2/3",
-                     "1 /2", "1/ 2", "half", "all", "one", "i", "1i", "", " 1", "1 ", "(1)", "1,0", "9/3", "6/-4", "0.5",
+                     "1 /2", "1/ 2", "half", "all", "one", "i", "1i", "", " 1", "1 ", "(1)", "1,0", "9/3", "6/-4",
+                     "0.5",
                      "10/4", "1\n", "1\t", "1:", "1;", "a", "True", "None", "0b1", "1j", "inf", "nan"]:
             for line in [f"row a: {text} 0", f"row a: 0 {text}", f"row a: 1 0; {text} 0", f"row a: 1 {text}; 1 0",
                          f"feed a 0: {text} 0", f"feed a 0: 0 {text}"] + (
@@ -205,18 +215,23 @@ class Phrases(unittest.TestCase):
                 self.refused(line)
 
     def test_indexes(self):
-        for text in ["-1", "+0", "00", "01", "-0", "1/2", "0/1", "half", "a", "", " ", "0.0", "1 ", "x1", "1e0", "None", "A"]:
+        for text in ["-1", "+0", "00", "01", "-0", "1/2", "0/1", "half", "a", "", " ", "0.0", "1 ", "x1", "1e0",
+                     "None", "A"]:
             self.refused(f"feed a {text}: 1 0")
 
     def test_names(self):
-        for text in ["", "A", "a1", "aB", "abcdefghijklm", "a.b", "a_b", "1", "a-b", "a;", "a,", "a\n", "\ta", "a/b", "(a)", "*"]:
-            for line in [f"row {text}: 1 0", f"feed {text} 0: 1 0", f"forget {text}", f"show {text}", f"sent {text}: half",
+        for text in ["", "A", "a1", "aB", "abcdefghijklm", "a.b", "a_b", "1", "a-b", "a;", "a,", "a\n", "\ta", "a/b",
+                     "(a)", "*"]:
+            for line in [f"row {text}: 1 0", f"feed {text} 0: 1 0", f"forget {text}", f"show {text}",
+                         f"sent {text}: half",
                          f"power {text}: half", f"noise {text}", f"nulls {text}"]:
                 self.refused(line)
 
     def test_complexes(self):
-        for text in ["1", "1 0 0", "1  0", " 1 0", "1 0 ", "1,0", "1;0", "1+0", "1 half", "half", "half 0", "(1 0)", "1 0;",
-                     "1 0; ", "1 0;1 0", "; 1 0", "1 0 ; 1 0", "1 0;  1 0", "1 0, 1 0", "1 0: 1 0", "1 0; 1", "1 0; 1 0;"]:
+        for text in ["1", "1 0 0", "1  0", " 1 0", "1 0 ", "1,0", "1;0", "1+0", "1 half", "half", "half 0", "(1 0)",
+                     "1 0;",
+                     "1 0; ", "1 0;1 0", "; 1 0", "1 0 ; 1 0", "1 0;  1 0", "1 0, 1 0", "1 0: 1 0", "1 0; 1",
+                     "1 0; 1 0;"]:
             self.refused(f"row a: {text}")
             self.refused(f"feed a 0: {text}")
         self.refused("feed a 0: 1 0; 1 0")

@@ -13,7 +13,8 @@ from mastrows.patterns import greatest_floor, lags_sum, signs_on, zeros_on
 from mastrows.rows import is_row, lags_of, power_at
 from samples import some_row
 
-EDGES = [Fraction(1), Fraction(3, 4), Fraction(1, 2), Fraction(1, 10), Fraction(7, 3), Fraction(20), Fraction(1, 10 ** 40),
+EDGES = [Fraction(1), Fraction(3, 4), Fraction(1, 2), Fraction(1, 10), Fraction(7, 3), Fraction(20),
+         Fraction(1, 10 ** 40),
          Fraction(10 ** 40), Fraction(HUGE, 7), Fraction(7, HUGE)]
 
 

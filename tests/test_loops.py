@@ -374,7 +374,8 @@ class LoopRun(unittest.TestCase):
     def test_what_dies_away_does(self):
         dice = random.Random(182)
         for _ in range(40):
-            zeros = [dice.choice([TWO, real(-3), ((0, 1), (2, 1)), ((2, 1), (-2, 1))]) for _ in range(dice.randint(1, 4))]
+            known = [TWO, real(-3), ((0, 1), (2, 1)), ((2, 1), (-2, 1))]
+            zeros = [dice.choice(known) for _ in range(dice.randint(1, 4))]
             row = row_of_zeros(zeros)
             self.assertIs(dies_away(row), True)
             beginning = tuple(some_number(dice) for _ in zeros)

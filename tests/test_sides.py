@@ -84,10 +84,12 @@ class Sides(unittest.TestCase):
             first = [turn[0] * x - turn[1] * y for x, y in zip(real, side)]
             second = [turn[0] * y + turn[1] * x for x, y in zip(real, side)]
             above = len([b for _, b in spots if b > 0])
-            self.assertEqual(gap_of_sides(list(map(int, oracle.stripped(first))), list(map(int, oracle.stripped(second)))),
+            self.assertEqual(gap_of_sides(list(map(int, oracle.stripped(first))),
+                                          list(map(int, oracle.stripped(second)))),
                              2 * above - len(spots))
 
     def test_zeros_on_the_line(self):
-        for poly, many in [([1], 0), ([-2, 0, 1], 2), ([4, 0, -4, 0, 1], 4), ([1, 2, 1], 2), ([0, 0, 0, 5], 3), ([1, 0, 1], 0),
+        for poly, many in [([1], 0), ([-2, 0, 1], 2), ([4, 0, -4, 0, 1], 4), ([1, 2, 1], 2), ([0, 0, 0, 5], 3),
+                           ([1, 0, 1], 0),
                            ([0, 1, 0, 1], 1), ([-1, 3, -3, 1], 3), ([2, 0, 1, 0, -1], 2)]:
             self.assertEqual(zeros_on_line(poly), many)

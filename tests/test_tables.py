@@ -175,7 +175,8 @@ class Barred(unittest.TestCase):
         for lags in [(real(-1),), (real(-1), NIL), (NIL, ONE), (NIL, NIL, I), (NIL, NIL, NIL, NIL, NIL, NIL, NIL, ONE),
                      (ONE, TWO), (ONE, ((1, 1), (1, 1000))), (ONE, NIL, real(-3)), (ONE, ONE, I), (ONE, I, I),
                      (ONE, I, real(-1), ONE), (real(-1, HUGE),) + (NIL,) * 7, (TWO, ONE, real(-3, 2)),
-                     (NIL,) * 7 + (real(1, HUGE),), (ONE,) * 7 + (((1, 1), (1, HUGE)),), (ONE,) * 7 + (real(HUGE - 1, HUGE),)]:
+                     (NIL,) * 7 + (real(1, HUGE),), (ONE,) * 7 + (((1, 1), (1, HUGE)),),
+                     (ONE,) * 7 + (real(HUGE - 1, HUGE),)]:
             self.barred(lags)
 
     def test_bent_by_very_little(self):

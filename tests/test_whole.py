@@ -152,7 +152,8 @@ class Directions(unittest.TestCase):
 class Powers(unittest.TestCase):
     def test_like_rows_are_counted(self):
         # with zeros off the circle, all unlike: each may be exchanged for its mirror image
-        for zeros in ([TWO], [TWO, real(-3)], [TWO, ((0, 1), (3, 1)), ((1, 1), (1, 1))], [TWO, TWO], [TWO, TWO, real(3), ONE]):
+        for zeros in ([TWO], [TWO, real(-3)], [TWO, ((0, 1), (3, 1)), ((1, 1), (1, 1))], [TWO, TWO],
+                      [TWO, TWO, real(3), ONE]):
             row = (ONE,)
             for zero in zeros:
                 row = joined_rows(row, ((oracle.told(tuple(-part for part in oracle.number(zero)))), ONE))
@@ -209,7 +210,8 @@ def is_multiple(row, other):
     if len(row) != len(other):
         return False
     a, b = oracle.number(row[0]), oracle.number(other[0])
-    return all(oracle.times(oracle.number(one), b) == oracle.times(oracle.number(two), a) for one, two in zip(row, other))
+    pairs = [(oracle.number(one), oracle.number(two)) for one, two in zip(row, other)]
+    return all(oracle.times(one, b) == oracle.times(two, a) for one, two in pairs)
 
 
 class Errors(unittest.TestCase):
@@ -228,7 +230,8 @@ class Errors(unittest.TestCase):
             self.assertIs(surely_below(row, none, arc, level), k is not None)
             square = oracle.pair(oracle.fraction(level) ** 2)
             self.assertIs(stays_below(row, 0, arc, square), k is not None)
-            self.assertIs(surely_above(row, none, arc, level), signs_on(below(row, oracle.fraction(square)), arc) == (1,))
+            self.assertIs(surely_above(row, none, arc, level),
+                          signs_on(below(row, oracle.fraction(square)), arc) == (1,))
 
     def test_silence_is_an_error(self):
         # a silent mast is one whose feed is off by as much as it is
@@ -249,7 +252,8 @@ class Errors(unittest.TestCase):
             turn = dice.choice(SPOTS)
             off = silent_errors(row, slacks, turn)
             if off is not None:
-                feeds = tuple(oracle.told((oracle.number(a)[0] + oracle.number(b)[0], oracle.number(a)[1] + oracle.number(b)[1]))
+                feeds = tuple(oracle.told((oracle.number(a)[0] + oracle.number(b)[0],
+                                           oracle.number(a)[1] + oracle.number(b)[1]))
                               for a, b in zip(row, off))
                 self.assertEqual(oracle.power(feeds, turn), 0)
 
@@ -257,13 +261,14 @@ class Errors(unittest.TestCase):
         dice = random.Random(237)
         for _ in range(40):
             row, other, arc = some_row(dice, 4), some_row(dice, 4), dice.choice(ARCS)
-            level, slack, turn = oracle.pair(Fraction(dice.randint(0, 30), 2)), (dice.randint(0, 3), 7), dice.choice(SPOTS)
-            slack = oracle.pair(Fraction(*slack))
+            level, slack = [oracle.pair(Fraction(dice.randint(0, 30), part)) for part in (2, 70)]
+            turn = dice.choice(SPOTS)
             shop = Workshop()
             shop.put("a", row)
             shop.put("b", other)
             for demand, holds in [
-                    (("never more", "a", "b", arc), never_more(row, other, arc)), (("null", "a", turn), is_null(row, turn)),
+                    (("never more", "a", "b", arc), never_more(row, other, arc)),
+                    (("null", "a", turn), is_null(row, turn)),
                     (("below", "a", arc, level), stays_below(row, 0, arc, level)),
                     (("sure", "a", slack, arc, level), surely_below(row, (slack,) * len(row), arc, level))]:
                 if holds:
@@ -307,7 +312,8 @@ class Tables(unittest.TestCase):
     def test_the_next_reading_goes_on(self):
         dice = random.Random(239)
         for _ in range(30):
-            mirrors = tuple(dice.choice([NIL, HALF, ((0, 1), (-2, 3)), ((1, 3), (1, 3))]) for _ in range(dice.randint(0, 6)))
+            known = [NIL, HALF, ((0, 1), (-2, 3)), ((1, 3), (1, 3))]
+            mirrors = tuple(dice.choice(known) for _ in range(dice.randint(0, 6)))
             lags = lags_from((5, 2), mirrors)
             center, radius = next_disc(lags)
             self.assertEqual(radius, guess_error(lags))

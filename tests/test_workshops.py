@@ -38,11 +38,13 @@ NO_DEMANDS = NO_VALUES + [
     ("never more", "a", "b1", "all"), ("never more", "B", "a", "all"), ("never more", "a", None, "all"),
     ("never more", "a", Touchy(), "all"), ("never more", "a", "b", Touchy()), ("never more", "a", "b", "all", "all"),
     ("never more", "a", "b", [BOW[0], BOW[1]]), ("below", "a", "all"), ("below", "a", (1, 1), "all"),
-    ("below", "a", "all", (-1, 1)), ("below", "a", "all", (2, 2)), ("below", "a", "all", 1), ("below", "a", "all", None),
+    ("below", "a", "all", (-1, 1)), ("below", "a", "all", (2, 2)), ("below", "a", "all", 1),
+    ("below", "a", "all", None),
     ("below", "a", "half", (1, 1)), ("below", "a", "all", (1, 1), (1, 1)), ("below", "a", "all", Touchy()),
     ("sure", "a", (1, 1), "all"), ("sure", "a", (-1, 1), "all", (1, 1)), ("sure", "a", (1, 1), "all", (-1, 1)),
     ("sure", "a", (1, 1), "half", (1, 1)), ("sure", "a", ((1, 1), (1, 1)), "all", (1, 1)), ("sure", "a", "all", (1, 1)),
-    ("sure", "a", (True, 1), "all", (1, 1)), ("sure", "a", (1, 1), "all", (1, 1), ()), ("sure", "a", (1, 1), Touchy(), (1, 1)),
+    ("sure", "a", (True, 1), "all", (1, 1)), ("sure", "a", (1, 1), "all", (1, 1), ()),
+    ("sure", "a", (1, 1), Touchy(), (1, 1)),
     ("put", "a", PAIR), ("a", "null", "half"), (("null",), "a", "half"), (b"null", "a", "half"), ("null", b"a", "half"),
     ("null", "abcdefghijklm", "half"), ("null", "a" * 3999, "half")]
 
@@ -172,12 +174,14 @@ class Beside(unittest.TestCase):
         self.assertTrue(shop)
 
     def call(self, dice):
-        word = dice.choice(["put"] * 4 + ["forget", "feed", "feed", "demand", "demand", "demand", "lift", "named", "undo"])
+        word = dice.choice(["put"] * 4 + ["forget", "feed", "feed", "demand", "demand", "demand", "lift", "named",
+                                          "undo"])
         name = dice.choice(NAMES + NAMES[:2] + ["other", "A"])
         if word == "put":
             return word, (name, dice.choice(ROWS + [None, (), (NIL, NIL)]))
         if word == "feed":
-            return word, (name, dice.choice([0, 0, 1, 1, 2, -1, True, None]), dice.choice([NIL, ONE, HALF, LESS, I, None]))
+            return word, (name, dice.choice([0, 0, 1, 1, 2, -1, True, None]),
+                          dice.choice([NIL, ONE, HALF, LESS, I, None]))
         if word == "demand":
             return word, (dice.choice(DEMANDS + DEMANDS + [("null", "a"), None]),)
         if word == "lift":
@@ -234,7 +238,8 @@ class Beside(unittest.TestCase):
                 plain.undo()
                 self.same(shop, plain)
             self.assertEqual((shop.names, shop.demands, len(shop)), ((), (), 0))
-        for word, errors_of in [("put", [None, InvalidName, InvalidRow, Broken]), ("forget", [None, UnknownName, InUse]),
+        for word, errors_of in [("put", [None, InvalidName, InvalidRow, Broken]),
+                                ("forget", [None, UnknownName, InUse]),
                                 ("feed", [None, UnknownName, InvalidIndex, InvalidComplex, InvalidRow, Broken]),
                                 ("demand", [None, InvalidDemand, UnknownName, Broken]), ("lift", [None, InvalidIndex]),
                                 ("named", [UnknownName]), ("undo", [None, NothingToUndo])]:
@@ -448,7 +453,8 @@ class Demands(unittest.TestCase):
         little = (1, 10 ** 60)
         for demand, holds in [
                 (("below", "a", "all", (4, 1)), True), (("below", "a", OVER, (2, 1)), True),
-                (("below", "a", OVER, (2 * 10 ** 60 - 1, 10 ** 60)), False), (("below", "a", ("half", (-1, 1)), (2, 1)), True),
+                (("below", "a", OVER, (2 * 10 ** 60 - 1, 10 ** 60)), False),
+                (("below", "a", ("half", (-1, 1)), (2, 1)), True),
                 (("sure", "a", (1, 4), "all", (5, 2)), True), (("sure", "a", (1, 4), OVER, (2, 1)), True),
                 (("sure", "a", little, "all", (2, 1)), False), (("sure", "a", (0, 1), "all", (2, 1)), True),
                 (("sure", "a", (2, 1), "all", (3, 1)), False), (("sure", "a", (1, 4), OVER, (191, 100)), False),
