@@ -111,7 +111,11 @@ def without_last_noughts(pairs):
 
 def evened(poly):
     """A multiple whose last number is real and above 0, without a whole divisor of all numbers."""
-    poly = cpoly_times(poly, pair_mirror(poly[-1]))
+    return without_divisor(cpoly_times(poly, pair_mirror(poly[-1])))
+
+
+def without_divisor(poly):
+    """The polynomial divided by the greatest whole number that divides all parts of all its numbers."""
     common = greatest_whole(poly)
     return [(real // common, side // common) for real, side in poly]
 

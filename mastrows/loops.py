@@ -2,7 +2,7 @@
 
 from mastrows.complexes import NOUGHT, is_complex
 from mastrows.cpolys import (NIL, common_bottom, numbers_over, pair_mirror, pair_product, pair_sum, pair_times,
-                             pairs_over)
+                             pairs_over, without_divisor)
 from mastrows.errors import InvalidBeginning, InvalidRow
 from mastrows.fracs import check_whole
 from mastrows.rows import check_row
@@ -74,7 +74,7 @@ def run_of(row, beginning, count):
     degree = degree_of(row)
     pairs = pairs_over(row[:degree + 1], common_bottom(row))
     # Times the conjugate of the first feed the first one is whole, and above 0.
-    feeds = [pair_product(pair, pair_mirror(pairs[0])) for pair in pairs]
+    feeds = without_divisor([pair_product(pair, pair_mirror(pairs[0])) for pair in pairs])
     whole, bottom = feeds[0][0], common_bottom(beginning)
     made, out = pairs_over(beginning, bottom), []
     for _ in range(count):
